@@ -1,0 +1,1 @@
+"""Echelon: exact linear algebra with certificates."""

@@ -1,0 +1,76 @@
+"""Values for the tests: always the same ones, from a simple sequence of numbers."""
+
+from math import gcd
+
+FIELDS = (("Q",), ("F", 2), ("F", 3), ("F", 97), ("F", 65521))
+POLYNOMIALS = tuple(("P", f) for f in FIELDS)
+EUCLIDEAN = (("Z",),) + POLYNOMIALS
+DOMAINS = EUCLIDEAN + FIELDS
+
+# Values that are no domain at all.
+NO_DOMAINS = (
+    None, True, False, 0, 1, -5, "", "Z", "Q", "F", (), [], ["Z"], ["Q"], ["F", 7], ["P", ("Q",)],
+    ("z",), ("R",), ("",), ("Z", ()), ("Z", "Z"), ("Q", 1), ("Q", ("Q",)), (("Z",),), (("Q",),),
+    (None,), (True,), (0,), (("F", 7),), ("ZZ",), ("Q", "Q"), ("Z", 7), ("Q", 7), ("N", 7),
+    ("F",), ("F", 0), ("F", 1), ("F", -7), ("F", 4), ("F", 9), ("F", 561), ("F", 1729),
+    ("F", 65520), ("F", 65536), ("F", 65537), ("F", 2 ** 31 - 1), ("F", 10 ** 40 + 121),
+    ("F", 251 * 257), ("F", 255 * 255), ("F", 241 * 271),
+    ("F", True), ("F", False), ("F", None), ("F", "7"), ("F", (7,)), ("F", 7, 7), ("F", ("F", 7)),
+    ("f", 7), (7, "F"), ("F", [7]),
+    ("P",), ("P", "Q"), ("P", "F", 7), ("P", None), ("P", 7), ("P", ("Z",)), ("P", ["Q"]),
+    ("P", ("F", 6)), ("P", ("F", 65537)), ("P", ("F", True)), ("P", ("P", ("Q",))),
+    ("P", ("P", ("F", 7))), ("P", ("Q",), 1), ("P", ("Q",), ("Q",)), ("P", ()), ("p", ("Q",)),
+)
+
+
+class Sample:
+    """A sequence of numbers that look as if they were taken by chance."""
+
+    def __init__(self, start):
+        self.state = start
+
+    def below(self, limit):
+        """A number from 0 to limit - 1."""
+        out = 0
+        span = 1
+        while span < limit * 2 ** 20:
+            self.state = (self.state * 6364136223846793005 + 1442695040888963407) % 2 ** 64
+            out = out * 2 ** 32 + self.state // 2 ** 32
+            span *= 2 ** 32
+        return out % limit
+
+    def between(self, low, high):
+        return low + self.below(high - low + 1)
+
+    def signed(self, digits):
+        """An integer of at most so many digits, with either sign."""
+        return self.between(1 - 10 ** digits, 10 ** digits - 1)
+
+    def fraction(self, digits):
+        n = self.signed(digits)
+        d = self.between(1, 10 ** digits - 1)
+        g = gcd(n, d)
+        return n // g, d // g
+
+    def number(self, d, digits):
+        """An element of a domain that has no polynomials."""
+        if d == ("Z",):
+            return self.signed(digits)
+        if d == ("Q",):
+            return self.fraction(digits)
+        return self.below(d[1])
+
+    def polynomial(self, f, degree, digits):
+        """A polynomial of exactly this degree; -1 is that of zero."""
+        out = [self.number(f, digits) for _ in range(degree + 1)]
+        while out and out[-1] in (0, (0, 1)):
+            out[-1] = self.number(f, digits)
+        return tuple(out)
+
+    def one_of(self, d, degree=4, digits=2):
+        """An element of any domain, of at most this degree; zero now and then."""
+        if self.below(10) == 0:
+            return {"Z": 0, "Q": (0, 1), "F": 0, "P": ()}[d[0]]
+        if d[0] == "P":
+            return self.polynomial(d[1], self.between(-1, degree), digits)
+        return self.number(d, digits)

@@ -74,3 +74,17 @@ class Sample:
         if d[0] == "P":
             return self.polynomial(d[1], self.between(-1, degree), digits)
         return self.number(d, digits)
+
+    def vector(self, d, n, degree=4, digits=2):
+        return tuple(self.one_of(d, degree, digits) for _ in range(n))
+
+    def matrix(self, d, m, n, degree=4, digits=2):
+        """A matrix over any domain, with a zero now and then."""
+        return m, n, tuple(self.vector(d, n, degree, digits) for _ in range(m))
+
+    def sizes(self, many, largest):
+        """So many pairs of numbers of rows and columns, at first all that are near to zero."""
+        out = [(m, n) for m in range(3) for n in range(3)]
+        while len(out) < many:
+            out.append((self.between(1, largest), self.between(1, largest)))
+        return out

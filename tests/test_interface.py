@@ -15,6 +15,23 @@ FUNCTIONS = {
         "power(d, x, k)", "inverse(f, x)", "quotient(f, x, y)", "divide(d, x, y)",
         "normal(d, x)", "greatest(d, x, y)",
     ),
+    "echelon.polynomials": (
+        "degree(a)", "make(f, coefficients)", "evaluate(f, a, x)", "derivative(f, a)",
+        "compose(f, a, b)", "power_modulo(f, a, k, b)", "square_free(f, a)",
+    ),
+    "echelon.factoring": ("factor(f, a)", "is_irreducible(f, a)", "roots(f, a)"),
+    "echelon.matrices": (
+        "is_matrix(d, a)", "matrix(d, rows, n)", "identity(d, n)", "zero_matrix(d, m, n)",
+        "plus(d, a, b)", "minus(d, a, b)", "times(d, a, b)", "scaled(d, x, a)", "transposed(a)",
+        "applied(d, a, v)", "row_times(d, v, a)", "matrix_power(d, a, k)", "beside(a, b)",
+        "below(a, b)", "part(a, rows, columns)", "diagonal(d, blocks)", "trace(d, a)",
+        "change(d, e, a)", "evaluated(f, g, a)",
+    ),
+    "echelon.elimination": (
+        "reduce(f, a)", "rank(f, a)", "kernel(f, a)", "solve(f, a, b)", "refute(f, a, b)",
+        "inverted(f, a)", "split(f, a)", "sign(order)", "determinant(f, a)", "column_basis(f, a)",
+        "factors(f, a)",
+    ),
 }
 
 CLASSES = {

@@ -42,6 +42,10 @@ STATEMENTS = (
     ast.Try, ast.Expr, ast.FunctionDef, ast.ClassDef, ast.ImportFrom,
 )
 
+# What is iterated at once, and the functions that do it.
+ITERATED = ("zip", "enumerate", "reversed", "range", "map")
+TAKERS = ("list", "tuple", "dict", "sorted", "sum", "any", "all", "enumerate", "zip", "min", "max")
+
 LITERALS = (ast.Constant, ast.Tuple, ast.List, ast.Dict, ast.UnaryOp, ast.Name)
 
 
@@ -65,6 +69,20 @@ def bound(path):
     names += [alias.name for node in nodes(path, ast.ImportFrom) for alias in node.names]
     names += [node.name for node in nodes(path, ast.ExceptHandler) if node.name]
     return names
+
+
+def called(node):
+    """The name of the function that is called, if it has a plain one."""
+    return node.func.id if isinstance(node.func, ast.Name) else None
+
+
+def plain_names(node):
+    """The names that a loop goes over, straight or by enumerate, zip or reversed."""
+    if isinstance(node, (ast.Name, ast.Attribute)):
+        return [ast.unparse(node)]
+    if isinstance(node, ast.Call) and called(node) in ("enumerate", "zip", "reversed"):
+        return [name for other in node.args for name in plain_names(other)]
+    return []
 
 
 class FilesTest(unittest.TestCase):
@@ -182,6 +200,44 @@ class CodeTest(unittest.TestCase):
                     self.assertIn(node.func.attr, own + METHODS, (path, node.lineno))
                 else:
                     self.assertIsInstance(node.func, ast.Name, path)
+
+    def test_no_variable_has_the_name_of_an_import_or_a_class(self):
+        for path in FILES:
+            fixed = [alias.name for node in nodes(path, ast.ImportFrom) for alias in node.names]
+            fixed += [node.name for node in nodes(path, ast.ClassDef)]
+            for node in nodes(path, ast.Name):
+                if isinstance(node.ctx, ast.Store):
+                    self.assertNotIn(node.id, fixed, (path, node.lineno))
+            for node in nodes(path, ast.arg):
+                self.assertNotIn(node.arg, fixed, (path, node.lineno))
+
+    def test_ranges_and_the_like_are_iterated_at_once(self):
+        for path in FILES:
+            allowed = []
+            for node in nodes(path, ast.For, ast.comprehension):
+                allowed.append(node.iter)
+            for node in nodes(path, ast.Call):
+                if called(node) in TAKERS:
+                    allowed += node.args
+            for node in nodes(path, ast.Call):
+                if called(node) in ITERATED:
+                    spots = [(other.lineno, other.col_offset) for other in allowed]
+                    self.assertIn((node.lineno, node.col_offset), spots, path)
+
+    def test_loops_do_not_change_what_they_go_over(self):
+        for path in FILES:
+            for loop in nodes(path, ast.For):
+                gone_over = plain_names(loop.iter)
+                for node in [node for row in loop.body for node in ast.walk(row)]:
+                    if isinstance(node, ast.Subscript) and isinstance(node.ctx, ast.Store):
+                        self.assertNotIn(ast.unparse(node.value), gone_over, (path, node.lineno))
+                    if isinstance(node, ast.Call) and isinstance(node.func, ast.Attribute):
+                        self.assertNotIn(ast.unparse(node.func.value), gone_over, (path, node.lineno))
+
+    def test_lambdas(self):
+        for path in FILES:
+            lines = [node.lineno for node in nodes(path, ast.Lambda)]
+            self.assertEqual(len(lines), len(set(lines)), path)
 
     def test_errors_are_created_where_they_are_raised(self):
         for path in FILES:

@@ -115,8 +115,14 @@ def without_content(lists):
 
 
 def bezout(f, a, b):
-    """Return lists [g, s, t] with s a + t b = g, where g divides a and b over the field.
+    """Return lists [g, s, t] with s a + t b = g, where g divides a and b over the field."""
+    return euclid(f, a, b)[0]
 
+
+def euclid(f, a, b):
+    """Return two lists [g, s, t] and [[], q, r] with s a + t b = g and q a + r b = 0.
+
+    Here g divides a and b over the field, and s r - t q is a number other than zero.
     Each list of three in the algorithm of Euclid stands for such an equation. It may be
     divided by an integer, and over the fractions it is: the integers would grow too fast.
     """
@@ -127,4 +133,4 @@ def bezout(f, a, b):
         if f[0] == "Q":
             last = without_content(last)
         old, new = new, last
-    return old
+    return old, new

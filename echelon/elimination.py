@@ -4,7 +4,9 @@ from echelon.domains import need_field, negate, one, zero
 from echelon.errors import SingularError
 from echelon.gauss import eliminated, triangular
 from echelon.matrices import beside, identity, need_length, need_square, part, transposed
-from echelon.rows import cleared_rows, determinant_of_rows, restored_entry, restored_row
+from echelon.rows import (
+    cleared_rows, determinant_of_rows, product_of, restored_entry, restored_row,
+)
 
 
 def reduce(f, a):
@@ -130,10 +132,7 @@ def determinant(f, a):
     need_field(f)
     need_square(a)
     rows, scales = cleared_rows(f, a[2])
-    scale = 1
-    for m in scales:
-        scale *= m
-    return restored_entry(f, determinant_of_rows(("Z",), rows), scale)
+    return restored_entry(f, determinant_of_rows(("Z",), rows), product_of(scales))
 
 
 def column_basis(f, a):

@@ -32,6 +32,14 @@ def cleared_rows(d, rows):
     return [row for row, _ in pairs], [m for _, m in pairs]
 
 
+def product_of(numbers):
+    """Return the product of integers."""
+    out = 1
+    for k in numbers:
+        out *= k
+    return out
+
+
 def restored_entry(d, x, m):
     """Return the element x / m."""
     if d[0] == "Q":

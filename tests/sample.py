@@ -1,6 +1,9 @@
 """Values for the tests: always the same ones, from a simple sequence of numbers."""
 
+from itertools import permutations
 from math import gcd
+
+from echelon.domains import add, multiply, negate, one, zero
 
 FIELDS = (("Q",), ("F", 2), ("F", 3), ("F", 97), ("F", 65521))
 POLYNOMIALS = tuple(("P", f) for f in FIELDS)
@@ -21,6 +24,19 @@ NO_DOMAINS = (
     ("P", ("F", 6)), ("P", ("F", 65537)), ("P", ("F", True)), ("P", ("P", ("Q",))),
     ("P", ("P", ("F", 7))), ("P", ("Q",), 1), ("P", ("Q",), ("Q",)), ("P", ()), ("p", ("Q",)),
 )
+
+
+def by_permutations(d, a):
+    """The determinant of a matrix as the sum over all permutations."""
+    total = zero(d)
+    for order in permutations(range(a[0])):
+        term = one(d)
+        for i, j in enumerate(order):
+            term = multiply(d, term, a[2][i][j])
+        if sum(order[i] > order[j] for i in range(len(order)) for j in range(i, len(order))) % 2:
+            term = negate(d, term)
+        total = add(d, total, term)
+    return total
 
 
 class Sample:
@@ -88,3 +104,14 @@ class Sample:
         while len(out) < many:
             out.append((self.between(1, largest), self.between(1, largest)))
         return out
+
+    def mixing(self, d, n, steps=12):
+        """A matrix with an inverse: that of some steps, in each of which a row is added to another."""
+        rows = [[one(d) if i == j else zero(d) for j in range(n)] for i in range(n)]
+        for _ in range(steps if n > 1 else 0):
+            i, k, x = self.below(n), self.below(n - 1), self.one_of(d, 1, 1)
+            k += k >= i
+            rows[i] = [add(d, y, multiply(d, x, z)) for y, z in zip(rows[i], rows[k])]
+        if n and self.below(2):
+            rows[0] = [negate(d, x) for x in rows[0]]
+        return n, n, tuple(tuple(row) for row in rows)

@@ -12,7 +12,7 @@ from echelon.matrices import (
     applied, beside, diagonal, identity, is_matrix, matrix, part, row_times, times, transposed,
     zero_matrix,
 )
-from tests.sample import EUCLIDEAN, FIELDS, NO_DOMAINS, Sample
+from tests.sample import EUCLIDEAN, FIELDS, NO_DOMAINS, Sample, by_permutations
 
 Q = ("Q",)
 F2 = ("F", 2)
@@ -57,19 +57,6 @@ def samples(start):
 def all_small(f, m, n):
     for numbers in product(range(f[1]), repeat=m * n):
         yield m, n, tuple(numbers[i * n:i * n + n] for i in range(m))
-
-
-def by_permutations(f, a):
-    """The determinant as the sum over all permutations."""
-    total = zero(f)
-    for order in permutations(range(a[0])):
-        term = one(f)
-        for i, j in enumerate(order):
-            term = multiply(f, term, a[2][i][j])
-        if sum(order[i] > order[j] for i in range(len(order)) for j in range(i, len(order))) % 2:
-            term = negate(f, term)
-        total = add(f, total, term)
-    return total
 
 
 class ReduceTest(unittest.TestCase):

@@ -32,6 +32,17 @@ FUNCTIONS = {
         "inverted(f, a)", "split(f, a)", "sign(order)", "determinant(f, a)", "column_basis(f, a)",
         "factors(f, a)",
     ),
+    "echelon.euclid": (
+        "hermite(d, a)", "smith(d, a)", "invariants(d, a)", "determinant_of(d, a)",
+        "integer_kernel(a)", "integer_solve(a, b)", "integer_refute(a, b)", "same_lattice(a, b)",
+    ),
+    "echelon.operators": (
+        "characteristic(f, a)", "annihilator(f, a, v)", "krylov(f, a, v)", "minimal(f, a)",
+        "cyclic_vector(f, a)", "companion(f, g)",
+    ),
+    "echelon.frobenius": (
+        "invariant_factors(f, a)", "frobenius(f, a)", "similarity(f, a, b)", "difference(f, a, b)",
+    ),
 }
 
 CLASSES = {

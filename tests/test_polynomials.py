@@ -5,7 +5,7 @@ import unittest
 from echelon.coefficients import convolved, without_content
 from echelon.divisors import exact, shared, shared_by_prime
 from echelon.domains import (
-    add, divide, from_integer, greatest, is_element, multiply, normal, one, power, subtract, zero,
+    add, divide, from_integer, greatest, is_element, multiply, normal, one, power, zero,
 )
 from echelon.errors import DomainError
 from echelon.polynomials import (

@@ -9,6 +9,9 @@ from math import gcd, lcm
 
 from echelon.numbers import common, fraction
 
+# Longer lists are multiplied at once.
+SHORT = 40
+
 
 def trimmed(a):
     """Return a list without the zeros at its end."""
@@ -41,11 +44,38 @@ def convolved(a, b):
     """Return the product of two lists."""
     if not a or not b:
         return []
+    if min(len(a), len(b)) > SHORT:
+        return convolved_at_once(a, b)
     out = [0] * (len(a) + len(b) - 1)
     for i, x in enumerate(a):
         for k, y in enumerate(b, start=i):
             out[k] += x * y
     return out
+
+
+def convolved_at_once(a, b):
+    """Return the product of two long lists, by a product of two long integers.
+
+    These are the values of the lists at a power of 16, which is so large that their product
+    shows the numbers of the product side by side.
+    """
+    many = len(a) + len(b) - 1
+    most = max([abs(c) for c in a]) * max([abs(c) for c in b]) * min(len(a), len(b))
+    width = len(f"{most:x}") + 1
+    half = "8" + "0" * (width - 1)
+    # With half of the power added everywhere no number is negative.
+    total = value_at_power(a, width) * value_at_power(b, width) + int(half * many, 16)
+    text = f"{total:x}".zfill(width * many)
+    middle = int(half, 16)
+    ends = [width * k for k in range(many, 0, -1)]
+    return [int(text[end - width:end], 16) - middle for end in ends]
+
+
+def value_at_power(a, width):
+    """Return the value of a list at the power of 16 with this exponent."""
+    above = "".join([f"{max(c, 0):x}".zfill(width) for c in reversed(a)])
+    under = "".join([f"{max(-c, 0):x}".zfill(width) for c in reversed(a)])
+    return int(above, 16) - int(under, 16)
 
 
 def divided(f, a, b):

@@ -159,9 +159,17 @@ def multiply(d, x, y):
         return x * y % d[1]
     if d[0] == "Q":
         return fraction(x[0] * y[0], x[1] * y[1])
+    if len(x) == 1 or len(y) == 1:
+        return scaled_by_constant(d[1], x, y)
     a, m = cleared(d[1], x)
     b, n = cleared(d[1], y)
     return restored(d[1], convolved(a, b), m * n)
+
+
+def scaled_by_constant(f, x, y):
+    """Return the product of two polynomials, one of which is a constant other than zero."""
+    constant, long = (x, y) if len(x) == 1 else (y, x)
+    return tuple([multiply(f, constant[0], c) for c in long])
 
 
 def from_integer(d, n):

@@ -52,6 +52,12 @@ def invariant_factors(f, a):
 
 def frobenius(f, a):
     """Return (c, t, s): the companion matrices along the diagonal, a t = t c, t s the identity."""
+    polynomials, t, s = cyclic_form(f, a)
+    return diagonal(f, [companion(f, g) for g in polynomials]), t, s
+
+
+def cyclic_form(f, a):
+    """Return (polynomials, t, s): the invariant factors and the matrices of the Frobenius form."""
     need_field(f)
     need_square(a)
     parts = cyclic_parts(f, a)[::-1]
@@ -60,7 +66,7 @@ def frobenius(f, a):
         t = beside(t, k)
     # The denominators of a column of t are alike, and those of a row are not.
     s = transposed(inverted(f, transposed(t)))
-    return diagonal(f, [companion(f, g) for g, _ in parts]), t, s
+    return tuple([g for g, _ in parts]), t, s
 
 
 def need_equal_sizes(f, a, b):
@@ -75,9 +81,14 @@ def need_equal_sizes(f, a, b):
 def similarity(f, a, b):
     """Return (t, s) with a t = t b and t s the identity, or None if there is no such pair."""
     need_equal_sizes(f, a, b)
-    c, t, s = frobenius(f, a)
-    other, p, q = frobenius(f, b)
-    if c != other:
+    return similarity_of(f, cyclic_form(f, a), cyclic_form(f, b))
+
+
+def similarity_of(f, first, second):
+    """Return the pair (t, s) for two matrices by their cyclic forms, or None if there is none."""
+    polynomials, t, s = first
+    others, p, q = second
+    if polynomials != others:
         return None
     return times(f, t, q), times(f, p, s)
 

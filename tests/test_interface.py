@@ -43,6 +43,29 @@ FUNCTIONS = {
     "echelon.frobenius": (
         "invariant_factors(f, a)", "frobenius(f, a)", "similarity(f, a, b)", "difference(f, a, b)",
     ),
+    "echelon.jordan": (
+        "eigenvalues(f, a)", "jordan_block(f, x, k)", "jordan(f, a)", "unsplit(f, a)",
+        "is_diagonal(f, a)",
+    ),
+    "echelon.lattices": (
+        "basis_of(a)", "orthogonal(b)", "is_reduced(b)", "reduce_basis(b)", "coordinates(b, v)",
+        "outside(b, v)", "sum_of(a, b)", "intersection(a, b)", "dual(b)", "volume(b)",
+        "index_in(a, b)",
+    ),
+    "echelon.shortest": ("minimal_vectors(b)", "shortest(b)", "closest(b, v)"),
+    "echelon.judge": ("judge(claim)",),
+    "echelon.answers": ("answer(question)",),
+    "echelon.roads": (
+        "determinant_bound(a)", "coefficient_bound(a)", "primes_for(m)", "determinant_by_primes(a)",
+        "characteristic_by_primes(a)", "rank_by_primes(a)", "lift(a, b, p, k)",
+        "solve_by_lifting(a, b)", "hermite_by_modulus(a)",
+    ),
+    "echelon.texts": (
+        "write_domain(d)", "write_element(d, x)", "write_vector(d, v)", "write_matrix(d, a)",
+        "read_domain(text)", "read_element(d, text)", "read_vector(d, text)", "read_matrix(d, text)",
+        "write_claim(claim)", "read_claim(text)",
+    ),
+    "echelon.desk": ("desk(text)",),
 }
 
 CLASSES = {

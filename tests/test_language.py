@@ -26,7 +26,8 @@ BUILTINS = """len range enumerate zip min max sum abs sorted reversed int str bo
 METHODS = """append clear copy count endswith extend find get index insert isalnum isalpha isdigit
     islower isspace isupper items join keys ljust lower lstrip partition pop remove replace reverse
     rfind rjust rpartition rsplit rstrip setdefault split splitlines startswith strip update upper
-    values zfill bit_length add discard sort format __init__""".split()
+    values zfill bit_length add discard sort format isascii isdecimal removeprefix removesuffix
+    __init__""".split()
 
 BARRED = """global async typing typing_extensions enum Enum IntEnum StrEnum Flag IntFlag Generic
     Protocol ABC ABCMeta namedtuple NamedTuple TypedDict TYPE_CHECKING abstractmethod dataclass
@@ -191,13 +192,15 @@ class CodeTest(unittest.TestCase):
                     self.assertIn(node.comparators[-1].value, (None, True, False), path)
 
     def test_names_and_methods(self):
+        methods = [node.name for path in FILES for kind in nodes(path, ast.ClassDef)
+                   for node in kind.body if isinstance(node, ast.FunctionDef)]
         for path in FILES:
             own = bound(path)
             for node in nodes(path, ast.Name):
                 self.assertIn(node.id, own + BUILTINS, (path, node.lineno))
             for node in nodes(path, ast.Call):
                 if isinstance(node.func, ast.Attribute):
-                    self.assertIn(node.func.attr, own + METHODS, (path, node.lineno))
+                    self.assertIn(node.func.attr, methods + METHODS, (path, node.lineno))
                 else:
                     self.assertIsInstance(node.func, ast.Name, path)
 

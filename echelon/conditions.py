@@ -4,6 +4,7 @@ All of these functions take any values where a claim may have any values.
 """
 
 from echelon.domains import divide, is_element, is_whole, one, zero
+from echelon.images import may_be_product, may_divide
 from echelon.matrices import applied, identity, is_matrix, row_times, times
 
 MOST_LINES = 40
@@ -39,16 +40,28 @@ def is_vector(d, v, n):
     return True
 
 
+def is_product(d, matrices, result):
+    """Return whether the product of a tuple of matrices that fit is the result."""
+    if not may_be_product(d, matrices, result):
+        return False
+    total = matrices[0]
+    for a in matrices[1:]:
+        total = times(d, total, a)
+    return total == result
+
+
 def is_inverse_pair(d, t, s, n):
     """Return whether two values are matrices with n rows, each the inverse of the other one."""
-    return is_sized(d, t, n, n) and is_sized(d, s, n, n) and times(d, t, s) == identity(d, n)
+    if not is_sized(d, t, n, n) or not is_sized(d, s, n, n):
+        return False
+    return is_product(d, (t, s), identity(d, n))
 
 
 def has_rank(d, a, p, y, r):
     """Return whether p a y is the identity with r rows; a is a matrix, and r an integer."""
     if r < 0 or not is_sized(d, p, r, a[0]) or not is_sized(d, y, a[1], r):
         return False
-    return times(d, times(d, p, a), y) == identity(d, r)
+    return is_product(d, (p, a, y), identity(d, r))
 
 
 def solves(d, a, x, b):
@@ -130,7 +143,7 @@ def is_multiple(e, x, y):
     none = zero(e)
     if y == none:
         return True
-    return x != none and divide(e, y, x)[1] == none
+    return x != none and may_divide(e, x, y) and divide(e, y, x)[1] == none
 
 
 def is_smith_form(e, s):

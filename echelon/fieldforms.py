@@ -1,12 +1,12 @@
 """The forms of claims over a field, and of those about determinants (points 141 and 142)."""
 
 from echelon.conditions import (
-    has_rank, is_echelon_form, is_inverse_pair, is_sized, is_square, is_table, is_vector, makes,
-    solves,
+    has_rank, is_echelon_form, is_inverse_pair, is_product, is_sized, is_square, is_table,
+    is_vector, makes, solves,
 )
 from echelon.domains import is_element, is_field, is_whole, multiply, negate, one, zero
 from echelon.elimination import sign
-from echelon.matrices import change, identity, part, times, zero_matrix
+from echelon.matrices import change, identity, part, zero_matrix
 
 WHOLE = ("Z",)
 RATIONAL = ("Q",)
@@ -17,7 +17,7 @@ def is_rank(claim):
     _, f, a, r, p, y, b, c = claim
     if not is_field(f) or not is_table(f, a) or not is_whole(r) or not has_rank(f, a, p, y, r):
         return False
-    return is_sized(f, b, a[0], r) and is_sized(f, c, r, a[1]) and times(f, b, c) == a
+    return is_sized(f, b, a[0], r) and is_sized(f, c, r, a[1]) and is_product(f, (b, c), a)
 
 
 def is_echelon(claim):
@@ -25,7 +25,7 @@ def is_echelon(claim):
     _, f, a, r, t, s = claim
     if not is_field(f) or not is_table(f, a) or not is_sized(f, r, a[0], a[1]):
         return False
-    return is_echelon_form(f, r) and is_inverse_pair(f, t, s, a[0]) and times(f, t, a) == r
+    return is_echelon_form(f, r) and is_inverse_pair(f, t, s, a[0]) and is_product(f, (t, a), r)
 
 
 def is_kernel(claim):
@@ -40,7 +40,9 @@ def spans_kernel(d, a, k, w):
     """Return whether a k = 0 and w k = I; a is a matrix."""
     if not is_table(d, k) or k[0] != a[1] or not is_sized(d, w, k[1], k[0]):
         return False
-    return times(d, a, k) == zero_matrix(d, a[0], k[1]) and times(d, w, k) == identity(d, k[1])
+    if not is_product(d, (a, k), zero_matrix(d, a[0], k[1])):
+        return False
+    return is_product(d, (w, k), identity(d, k[1]))
 
 
 def is_solution(claim):
@@ -85,7 +87,7 @@ def is_determinant(claim):
     if not is_lower(f, l, a[0]) or not is_upper(f, u, a[0]):
         return False
     a = change(d, f, a)
-    if times(f, l, u) != part(a, list(order), list(range(a[0]))):
+    if not is_product(f, (l, u), part(a, list(order), list(range(a[0])))):
         return False
     total = one(f)
     for k in range(a[0]):

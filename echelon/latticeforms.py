@@ -1,12 +1,12 @@
 """The forms of claims over the integers (point 144)."""
 
 from echelon.conditions import (
-    has_rank, is_inverse_pair, is_sized, is_table, is_vector, makes, solves,
+    has_rank, is_inverse_pair, is_product, is_sized, is_table, is_vector, makes, solves,
 )
 from echelon.domains import is_whole
 from echelon.fieldforms import spans_kernel
-from echelon.matrices import applied, change, row_times, times
-from echelon.reduction import gram_schmidt, is_short, product_of_rows
+from echelon.matrices import applied, change, row_times
+from echelon.reduction import are_reduced, product_of_rows
 from echelon.shortest import MOST_ROWS, short_combinations
 
 WHOLE = ("Z",)
@@ -75,7 +75,7 @@ def is_same_lattice(claim):
         return False
     if not is_sized(WHOLE, u, b[0], a[0]) or not is_sized(WHOLE, v, a[0], b[0]):
         return False
-    return times(WHOLE, u, a) == b and times(WHOLE, v, b) == a
+    return is_product(WHOLE, (u, a), b) and is_product(WHOLE, (v, b), a)
 
 
 def is_other_lattice(claim):
@@ -99,13 +99,9 @@ def is_reduction(a, r, u, v):
     """Return whether r = u a is a reduced basis and v the inverse of u."""
     if not is_table(WHOLE, a) or not is_sized(WHOLE, r, a[0], a[1]):
         return False
-    if not is_inverse_pair(WHOLE, u, v, a[0]) or times(WHOLE, u, a) != r:
+    if not is_inverse_pair(WHOLE, u, v, a[0]) or not is_product(WHOLE, (u, a), r):
         return False
-    numbers = gram_schmidt(r[2])
-    if numbers is None:
-        return False
-    d, shadows = numbers
-    return is_short(d, shadows)
+    return are_reduced(r[2])
 
 
 def is_shortest(claim):

@@ -1,10 +1,10 @@
 """The forms of claims about operators over a field, and about their similarity (points 141, 145)."""
 
-from echelon.conditions import is_chain, is_inverse_pair, is_square
+from echelon.conditions import is_chain, is_inverse_pair, is_product, is_square
 from echelon.domains import is_element, is_field, is_whole, multiply, one
 from echelon.factoring import roots
 from echelon.jordan import is_split_by, jordan_block
-from echelon.matrices import diagonal, times
+from echelon.matrices import diagonal
 from echelon.operators import companion
 
 
@@ -20,7 +20,7 @@ def is_moved(f, a, b, t, s):
     """Return whether a is square, t s = I and s a t = b; b is a square matrix."""
     if not is_square(f, a) or a[0] != b[0] or not is_inverse_pair(f, t, s, a[0]):
         return False
-    return times(f, times(f, s, a), t) == b
+    return is_product(f, (s, a, t), b)
 
 
 def is_not_similar(claim):

@@ -42,13 +42,32 @@ def is_far(d, shadows, k):
     return 4 * d[k + 1] * d[k - 1] >= 3 * d[k] * d[k] - 4 * shadows[k][k - 1] * shadows[k][k - 1]
 
 
+def is_short_row(d, shadows, i):
+    """Return whether the row i keeps the conditions of a reduced basis."""
+    for k in range(i):
+        if 2 * abs(shadows[i][k]) > d[k + 1]:
+            return False
+    return i == 0 or is_far(d, shadows, i)
+
+
 def is_short(d, shadows):
     """Return whether the basis with these numbers is reduced."""
-    for i, line in enumerate(shadows):
-        for k in range(i):
-            if 2 * abs(line[k]) > d[k + 1]:
-                return False
-        if i and not is_far(d, shadows, i):
+    for i in range(len(shadows)):
+        if not is_short_row(d, shadows, i):
+            return False
+    return True
+
+
+def are_reduced(rows):
+    """Return whether rows are a reduced basis; they may be dependent."""
+    d = [1]
+    shadows = []
+    for i, row in enumerate(rows):
+        line = shadow_of(rows[:i], d, shadows, row)
+        shadows.append(line)
+        d.append(line[i])
+        # Wrong rows are often so at once, and the numbers of the others are longer.
+        if line[i] == 0 or not is_short_row(d, shadows, i):
             return False
     return True
 

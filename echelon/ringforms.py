@@ -1,11 +1,11 @@
 """The forms of claims over a Euclidean domain, and of those about factors (point 143)."""
 
 from echelon.conditions import (
-    is_hermite_form, is_inverse_pair, is_normal, is_sized, is_smith_form, is_table,
+    is_hermite_form, is_inverse_pair, is_normal, is_product, is_sized, is_smith_form, is_table,
 )
 from echelon.domains import add, is_element, is_euclidean, is_field, is_whole, multiply, one, power
 from echelon.factoring import is_irreducible, place
-from echelon.matrices import times
+from echelon.images import may_be_product
 
 HIGHEST_DEGREE = 60
 
@@ -19,15 +19,17 @@ def is_greatest(claim):
         if not is_element(e, x):
             return False
     _, _, x, y, g, s, t, q, r = claim
-    if not is_normal(e, g) or not is_product(e, x, q, g) or not is_product(e, y, r, g):
+    if not is_normal(e, g) or not is_multiple_of(e, x, q, g) or not is_multiple_of(e, y, r, g):
+        return False
+    line, column = (1, 2, ((s, t),)), (2, 1, ((x,), (y,)))
+    if not may_be_product(e, (line, column), (1, 1, ((g,),))):
         return False
     return add(e, multiply(e, s, x), multiply(e, t, y)) == g
 
 
-def is_product(e, x, q, g):
+def is_multiple_of(e, x, q, g):
     """Return whether x = q g."""
-    # Degrees come first: the product of long polynomials takes longer.
-    if e[0] == "P" and q and g and len(x) != len(q) + len(g) - 1:
+    if not may_be_product(e, ((1, 1, ((q,),)), (1, 1, ((g,),))), (1, 1, ((x,),))):
         return False
     return multiply(e, q, g) == x
 
@@ -37,7 +39,7 @@ def is_hermite(claim):
     _, e, a, h, u, v = claim
     if not is_euclidean(e) or not is_table(e, a) or not is_sized(e, h, a[0], a[1]):
         return False
-    return is_hermite_form(e, h) and is_inverse_pair(e, u, v, a[0]) and times(e, u, a) == h
+    return is_hermite_form(e, h) and is_inverse_pair(e, u, v, a[0]) and is_product(e, (u, a), h)
 
 
 def is_smith(claim):
@@ -47,7 +49,7 @@ def is_smith(claim):
         return False
     if not is_inverse_pair(e, u, x, a[0]) or not is_inverse_pair(e, v, y, a[1]):
         return False
-    return is_smith_form(e, s) and times(e, times(e, u, a), v) == s
+    return is_product(e, (u, a, v), s) and is_smith_form(e, s)
 
 
 def is_factors(claim):

@@ -25,7 +25,6 @@ from tests.test_lattices import DEPENDENT
 from tests.test_operators import block, mixed
 
 NONE = (0, 0, ())
-BIG = 10 ** 40
 
 
 class AnswerTest(unittest.TestCase):
@@ -93,7 +92,8 @@ class FieldTest(AnswerTest):
         take = Sample(274)
         for d in FIELDS + (Z,):
             for n in range(6):
-                for a in (take.matrix(d, n, n, 0, 1), identity(d, n), zero_matrix(d, n, n), take.matrix(d, n, n, 0, 9),
+                for a in (take.matrix(d, n, n, 0, 1), identity(d, n), zero_matrix(d, n, n),
+                          take.matrix(d, n, n, 0, 9),
                           times(d, take.matrix(d, n, 1, 0, 1), take.matrix(d, 1, n, 0, 1))):
                     claim = self.ask("determinant", d, a)
                     x = determinant_of(d, a) if d == Z else determinant(d, a)
@@ -122,7 +122,8 @@ class FieldTest(AnswerTest):
         for f in FIELDS:
             x, y = one(f), zero(f)
             kinds = [take.matrix(f, n, n, 0, 1) for n in range(6) for _ in range(2)]
-            kinds += [identity(f, 3), zero_matrix(f, 4, 4), diagonal(f, [block(f, x, 2), block(f, y, 1), block(f, x, 1)])]
+            kinds += [identity(f, 3), zero_matrix(f, 4, 4),
+                      diagonal(f, [block(f, x, 2), block(f, y, 1), block(f, x, 1)])]
             kinds += [mixed(f, take, diagonal(f, [block(f, x, 3), block(f, y, 2)]))]
             kinds += [mixed(f, take, diagonal(f, [take.matrix(f, 2, 2, 0, 1)] * 2))]
             names = set()
@@ -206,13 +207,15 @@ class IntegerTest(AnswerTest):
         take = Sample(282)
         names = set()
         for a in shapes(take, Z):
-            for w in (take.vector(Z, a[1], 0, 1), (0,) * a[1], tuple(sum(row[j] for row in a[2]) for j in range(a[1]))):
+            for w in (take.vector(Z, a[1], 0, 1), (0,) * a[1],
+                      tuple(sum(row[j] for row in a[2]) for j in range(a[1]))):
                 claim = self.ask("member", a, w)
                 held = integer_solve(transposed(a), w) is not None
                 self.assertEqual(claim[0], "member" if held else "not member")
                 names.add(claim[0])
             for b in (a, basis_of(a), take.matrix(Z, take.below(4), a[1], 0, 1), (0, a[1], ()), identity(Z, a[1]),
-                      (a[0] + 1, a[1], ((0,) * a[1],) + a[2]), (a[0], a[1], tuple(tuple(2 * x for x in row) for row in a[2]))):
+                      (a[0] + 1, a[1], ((0,) * a[1],) + a[2]),
+                      (a[0], a[1], tuple(tuple(2 * x for x in row) for row in a[2]))):
                 for claim in (self.ask("lattice", a, b), self.ask("lattice", b, a)):
                     self.assertEqual(claim[0], "same lattice" if same_lattice(a, b) else "other lattice")
                     names.add(claim[0])
@@ -300,7 +303,8 @@ class EdgeTest(AnswerTest):
                 self.assertEqual(self.ask("rank", Q, over)[3], rank_by_primes(a)[0])
                 self.assertEqual(self.ask("determinant", Z, a)[3], determinant_by_primes(a)[0])
                 self.assertEqual(self.ask("determinant", Q, over)[3], (determinant_by_primes(a)[0], 1))
-                self.assertEqual(self.ask("characteristic", Q, over)[3], tuple((c, 1) for c in characteristic_by_primes(a)))
+                self.assertEqual(self.ask("characteristic", Q, over)[3],
+                                 tuple((c, 1) for c in characteristic_by_primes(a)))
 
 
 class ErrorTest(unittest.TestCase):
@@ -315,7 +319,8 @@ class ErrorTest(unittest.TestCase):
         square, wide = table(Z, (1,)), table(Z, (1, 2))
         for d in NO_DOMAINS + EUCLIDEAN:
             for a in (NONE, square, wide):
-                for kind in ("rank", "echelon", "kernel", "invert", "frobenius", "characteristic", "minimal", "jordan"):
+                for kind in ("rank", "echelon", "kernel", "invert", "frobenius", "characteristic", "minimal",
+                             "jordan"):
                     self.refuse(DomainError, kind, d, a)
                 self.refuse(DomainError, "solve", d, a, (1, 2, 3))
                 self.refuse(DomainError, "similar", d, a, wide)
@@ -373,7 +378,8 @@ class ErrorTest(unittest.TestCase):
                 question = (kind, d, a)
                 answer(question)
                 self.assertEqual(question, (kind, d, copy))
-        self.assertEqual(answer(("solve", F7, table(F7, (2,)), vector(F7, 1))), ("solution", F7, table(F7, (2,)), (1,), (4,)))
+        self.assertEqual(answer(("solve", F7, table(F7, (2,)), vector(F7, 1))),
+                         ("solution", F7, table(F7, (2,)), (1,), (4,)))
 
 
 if __name__ == "__main__":

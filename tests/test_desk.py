@@ -18,7 +18,8 @@ ONE_MATRIX = ("rank", "echelon", "kernel", "invert", "determinant", "hermite", "
               "minimal", "jordan", "reduce", "shortest", "integer-kernel")
 TWO_MATRICES = ("similar", "lattice")
 WITH_VECTOR = ("solve", "integer-solve", "member")
-OVER_FIELD = ("rank", "echelon", "kernel", "invert", "solve", "similar", "frobenius", "characteristic", "minimal", "jordan")
+OVER_FIELD = ("rank", "echelon", "kernel", "invert", "solve", "similar", "frobenius", "characteristic", "minimal",
+              "jordan")
 OVER_RING = ("hermite", "smith")
 HEADS = {Z: "Z", Q: "Q", F2: "F2", F7: "F7", LARGE: "F65521", PQ: "PQ", P2: "PF2", P7: "PF7"}
 
@@ -48,16 +49,26 @@ class LinesTest(unittest.TestCase):
         self.assertEqual(run(*["?"] * 12), [f"error {k}" for k in range(1, 13)])
 
     def test_lines_that_are_no_commands(self):
-        for line in ("", " ", "matrix", "vector", "ask", "claim", "judge", "matrix ", "vector ", "ask ", "claim ", "judge ",
-                     "MATRIX a Z [1]", "Ask rank a", " matrix a Z [1]", "matrices a Z [1]", "matrix a", "matrix a Z", "matrix a Z ",
-                     "matrix  a Z [1]", "matrix a  Z [1]", "matrix a Z  [1]", "matrix a Z [1] ", "matrix a Z <1>", "matrix a [1]",
-                     "matrix Z [1]", "vector a Z [1]", "vector a Z", "vector a Z <1> ", "vector a  Z <1>", "matrix a z [1]",
-                     "matrix a F4 [1]", "matrix a PPQ [1]", "matrix a F65537 [1]", "matrix a Q [2/4]", "matrix a Z [1; 2 3]",
-                     "matrix a\tZ [1]", "matrix a Z [1]\r", "claim", "claim x", "claim 0", "claim 1", "claim -1", "claim 01", "claim +1",
-                     "claim 1 ", "claim  1", "claim 1 1", "judge 1", "judge x", "judge (", "judge ) ", "judge ()  ", "judge  ()",
-                     "judge () ", "judge ()()", "ask rank", "ask rank ", "ask rank x", "ask  rank x", "ask x", "ask x y", "rank m",
-                     "error 1", "ask rank m x", "# matrix", "\x0b", "exit", "ask integer kernel m", "ask integer solve m v"):
-            self.assertEqual(run("matrix m Q [1]", "vector v Q <1>", line, "ask rank m"), ["error 3", "1 rank 1"], line)
+        for line in ("", " ", "matrix", "vector", "ask", "claim", "judge", "matrix ", "vector ", "ask ", "claim ",
+                     "judge ",
+                     "MATRIX a Z [1]", "Ask rank a", " matrix a Z [1]", "matrices a Z [1]", "matrix a", "matrix a Z",
+                     "matrix a Z ",
+                     "matrix  a Z [1]", "matrix a  Z [1]", "matrix a Z  [1]", "matrix a Z [1] ", "matrix a Z <1>",
+                     "matrix a [1]",
+                     "matrix Z [1]", "vector a Z [1]", "vector a Z", "vector a Z <1> ", "vector a  Z <1>",
+                     "matrix a z [1]",
+                     "matrix a F4 [1]", "matrix a PPQ [1]", "matrix a F65537 [1]", "matrix a Q [2/4]",
+                     "matrix a Z [1; 2 3]",
+                     "matrix a\tZ [1]", "matrix a Z [1]\r", "claim", "claim x", "claim 0", "claim 1", "claim -1",
+                     "claim 01", "claim +1",
+                     "claim 1 ", "claim  1", "claim 1 1", "judge 1", "judge x", "judge (", "judge ) ", "judge ()  ",
+                     "judge  ()",
+                     "judge () ", "judge ()()", "ask rank", "ask rank ", "ask rank x", "ask  rank x", "ask x",
+                     "ask x y", "rank m",
+                     "error 1", "ask rank m x", "# matrix", "\x0b", "exit", "ask integer kernel m",
+                     "ask integer solve m v"):
+            self.assertEqual(run("matrix m Q [1]", "vector v Q <1>", line, "ask rank m"), ["error 3", "1 rank 1"],
+                             line)
 
     def test_signs_that_end_no_line(self):
         # Only the newline ends a line.
@@ -67,7 +78,8 @@ class LinesTest(unittest.TestCase):
 
     def test_any_texts(self):
         take = Sample(291)
-        pieces = ["matrix", "vector", "ask", "claim", "judge", " ", " ", " ", "\n", "a", "b", "Z", "Q", "F2", "[1]", "[1 2; 3 4]", "<1>",
+        pieces = ["matrix", "vector", "ask", "claim", "judge", " ", " ", " ", "\n", "a", "b", "Z", "Q", "F2", "[1]",
+                  "[1 2; 3 4]", "<1>",
                   "rank", "solve", "1", "()", '("rank")', "[0x0]", "member", "-1"] + SIGNS[:40]
         for _ in range(1500):
             text = "".join(pieces[take.below(len(pieces))] for _ in range(take.below(20)))
@@ -75,7 +87,8 @@ class LinesTest(unittest.TestCase):
                 self.assertIs(type(line), str)
 
     def test_broken_lines(self):
-        for line in ("matrix ab F7 [1 2; 3 4]", "vector v Q <1/2 3>", "ask rank m", "ask solve m v", "claim 1", 'judge ("a" -)'):
+        for line in ("matrix ab F7 [1 2; 3 4]", "vector v Q <1/2 3>", "ask rank m", "ask solve m v", "claim 1",
+                     'judge ("a" -)'):
             for other in broken(line):
                 if "\n" not in other:
                     out = run("matrix m Q [1 0; 0 1]", "vector v Q <1 2>", "ask rank m", other, "ask rank m")
@@ -89,38 +102,49 @@ class NameTest(unittest.TestCase):
     def test_names(self):
         for name in ("a", "Z", "a1", "matrix", "ask", "A1b2C3", "a" * 12, "z99999999999", "Q"):
             self.assertEqual(run(f"matrix {name} Q [1]", f"ask rank {name}"), ["1 rank 1"])
-            self.assertEqual(run(f"vector {name} Q <1>", "matrix mm Q [1]", f"ask solve mm {name}"), ["1 solution <1>"])
-        for name in ("", "1", "1a", "a" * 13, "z999999999999", "a_b", "a-b", "a.", "_a", "\xe4", "a\xb2", "\xb2a", "a\u0663", "(", "a,b"):
+            self.assertEqual(run(f"vector {name} Q <1>", "matrix mm Q [1]", f"ask solve mm {name}"),
+                             ["1 solution <1>"])
+        for name in ("", "1", "1a", "a" * 13, "z999999999999", "a_b", "a-b", "a.", "_a", "\xe4", "a\xb2", "\xb2a",
+                     "a\u0663", "(", "a,b"):
             self.assertEqual(run(f"matrix {name} Q [1]"), ["error 1"], name)
             self.assertEqual(run(f"vector {name} Q <1>"), ["error 1"], name)
             self.assertEqual(run("matrix a Q [1]", f"ask rank {name}"), ["error 2"], name)
 
     def test_names_are_told_apart(self):
-        self.assertEqual(run("matrix a Q [1]", "matrix A Q [0]", "ask rank a", "ask rank A"), ["1 rank 1", "2 rank 0"])
+        self.assertEqual(run("matrix a Q [1]", "matrix A Q [0]", "ask rank a", "ask rank A"),
+                         ["1 rank 1", "2 rank 0"])
 
     def test_a_name_gets_another_meaning(self):
-        self.assertEqual(run("matrix a Q [1]", "ask rank a", "matrix a F2 [1 0; 0 1]", "ask rank a", "vector a Q <1>", "ask rank a",
-                             "matrix a Z [5]", "ask determinant a"), ["1 rank 1", "2 rank 2", "error 6", "3 determinant 5"])
+        self.assertEqual(run("matrix a Q [1]", "ask rank a", "matrix a F2 [1 0; 0 1]", "ask rank a", "vector a Q <1>",
+                             "ask rank a",
+                             "matrix a Z [5]", "ask determinant a"),
+                             ["1 rank 1", "2 rank 2", "error 6", "3 determinant 5"])
         # A claim keeps what the name meant.
         out = run("matrix a Z [5]", "ask determinant a", "matrix a Z [7]", "claim 1")
         self.assertEqual(out[1], write_claim(answer(("determinant", Z, (1, 1, ((5,),))))))
 
     def test_a_name_keeps_its_meaning_if_the_line_is_an_error(self):
-        for line in ("matrix a Q [1", "matrix a Q [1; 2 3]", "matrix a Q [1000]", "vector a Q <1/1>", "vector a Q [1]", "matrix a X [1]",
-                     "matrix a Q [7x0]", "matrix a PQ [{1 2 3 4}]", "vector a Z <1234567890>", "matrix a", "matrix a Q"):
+        for line in ("matrix a Q [1", "matrix a Q [1; 2 3]", "matrix a Q [1000]", "vector a Q <1/1>",
+                     "vector a Q [1]", "matrix a X [1]",
+                     "matrix a Q [7x0]", "matrix a PQ [{1 2 3 4}]", "vector a Z <1234567890>", "matrix a",
+                     "matrix a Q"):
             self.assertEqual(run("matrix a Q [1 0; 0 1]", line, "ask rank a"), ["error 2", "1 rank 2"], line)
 
     def test_names_of_the_wrong_kind(self):
         heads = ("matrix m Q [1]", "vector v Q <1>", "matrix z Z [1]", "vector w Z <1>")
         lines = []
         for kind in ONE_MATRIX:
-            lines += [f"ask {kind} v", f"ask {kind} w", f"ask {kind}", f"ask {kind} m m", f"ask {kind} m v", f"ask {kind} x"]
+            lines += [f"ask {kind} v", f"ask {kind} w", f"ask {kind}", f"ask {kind} m m", f"ask {kind} m v",
+                      f"ask {kind} x"]
         for kind in TWO_MATRICES:
-            lines += [f"ask {kind} m v", f"ask {kind} v m", f"ask {kind} m", f"ask {kind} m m m", f"ask {kind} m x", f"ask {kind} x m"]
+            lines += [f"ask {kind} m v", f"ask {kind} v m", f"ask {kind} m", f"ask {kind} m m m", f"ask {kind} m x",
+                      f"ask {kind} x m"]
         for kind in WITH_VECTOR:
-            lines += [f"ask {kind} m m", f"ask {kind} v m", f"ask {kind} v v", f"ask {kind} m", f"ask {kind} m v v", f"ask {kind} m x",
+            lines += [f"ask {kind} m m", f"ask {kind} v m", f"ask {kind} v v", f"ask {kind} m", f"ask {kind} m v v",
+                      f"ask {kind} m x",
                       f"ask {kind} x v", f"ask {kind} z x", f"ask {kind} z m"]
-        for kind in ("greatest", "factor", "integer kernel", "integer_kernel", "Rank", "inverse", "solution", "hermit", "", "lattice-"):
+        for kind in ("greatest", "factor", "integer kernel", "integer_kernel", "Rank", "inverse", "solution",
+                     "hermit", "", "lattice-"):
             lines += [f"ask {kind} m", f"ask {kind} m m", f"ask {kind} m v"]
         for line in lines:
             self.assertEqual(run(*heads, line), ["error 5"], line)
@@ -150,11 +174,15 @@ class LimitTest(unittest.TestCase):
 
     def test_digits(self):
         for sign in ("", "-"):
-            self.judge_lines([f"matrix a Z [{sign}123456789]", f"vector a Z <0 {sign}999999999>", f"matrix a Q [{sign}999/998]",
+            self.judge_lines([f"matrix a Z [{sign}123456789]", f"vector a Z <0 {sign}999999999>",
+                              f"matrix a Q [{sign}999/998]",
                               f"vector a Q <{sign}1/999 999>", f"matrix a PQ [{{{sign}999 1/999}}]"],
-                             [f"matrix a Z [{sign}1234567890]", f"vector a Z <0 {sign}1000000000>", f"matrix a Q [{sign}1000]",
-                              f"matrix a Q [{sign}1000/999]", f"matrix a Q [{sign}1/1000]", f"vector a Q <1 {sign}999/1000>",
-                              f"matrix a PQ [{{{sign}1000}}]", f"matrix a PQ [{{0 {sign}1/1000}}]", f"vector a PQ <{{{sign}1 1/2000}}>"])
+                             [f"matrix a Z [{sign}1234567890]", f"vector a Z <0 {sign}1000000000>",
+                              f"matrix a Q [{sign}1000]",
+                              f"matrix a Q [{sign}1000/999]", f"matrix a Q [{sign}1/1000]",
+                              f"vector a Q <1 {sign}999/1000>",
+                              f"matrix a PQ [{{{sign}1000}}]", f"matrix a PQ [{{0 {sign}1/1000}}]",
+                              f"vector a PQ <{{{sign}1 1/2000}}>"])
         self.judge_lines(("matrix a F65521 [65520]", "vector a F65521 <10000>", "matrix a PF65521 [{65520 0 65520}]"),
                          ("matrix a F65521 [65521]", "vector a PF65521 <{65521}>"))
 
@@ -180,11 +208,14 @@ class AskTest(unittest.TestCase):
 
     def test_results_of_one_matrix(self):
         for head, text, kind, result in (
-                ("Q", "[1 2; 2 4]", "rank", "rank 1"), ("Q", "[0x3]", "rank", "rank 0"), ("F2", "[1 1; 0 1]", "rank", "rank 2"),
+                ("Q", "[1 2; 2 4]", "rank", "rank 1"), ("Q", "[0x3]", "rank", "rank 0"),
+                ("F2", "[1 1; 0 1]", "rank", "rank 2"),
                 ("Q", "[2 4; 1 3]", "determinant", "determinant 2"), ("Q", "[1/2]", "determinant", "determinant 1/2"),
-                ("Z", "[2 4; 1 1]", "determinant", "determinant -2"), ("F7", "[3 0; 0 4]", "determinant", "determinant 5"),
+                ("Z", "[2 4; 1 1]", "determinant", "determinant -2"),
+                ("F7", "[3 0; 0 4]", "determinant", "determinant 5"),
                 ("Z", "[0x0]", "determinant", "determinant 1"),
-                ("Q", "[1 2; 3 4]", "characteristic", "characteristic {-2 -5 1}"), ("Q", "[0x0]", "characteristic", "characteristic {1}"),
+                ("Q", "[1 2; 3 4]", "characteristic", "characteristic {-2 -5 1}"),
+                ("Q", "[0x0]", "characteristic", "characteristic {1}"),
                 ("F2", "[1 0; 0 1]", "minimal", "minimal {1 1}"), ("F7", "[0x0]", "minimal", "minimal {1}"),
                 ("Q", "[2 4; 1 2]", "echelon", "echelon [1 2; 0 0]"), ("Q", "[2x0]", "echelon", "echelon [2x0]"),
                 ("Q", "[1 2; 2 4]", "kernel", "kernel [-2; 1]"), ("Q", "[1 0; 0 1]", "kernel", "kernel [2x0]"),
@@ -192,15 +223,21 @@ class AskTest(unittest.TestCase):
                 ("Q", "[1 2; 3 4]", "invert", "inverse [-2 1; 3/2 -1/2]"), ("F7", "[3]", "invert", "inverse [5]"),
                 ("Q", "[0x0]", "invert", "inverse [0x0]"), ("F2", "[0 0; 0 1]", "invert", "singular <1 0>"),
                 ("Z", "[2 3; 4 4]", "hermite", "hermite [2 1; 0 2]"), ("PF7", "[{2}]", "hermite", "hermite [{1}]"),
-                ("PQ", "[{0 2}; {}]", "hermite", "hermite [{0 1}; {}]"), ("Z", "[2 0; 0 3]", "smith", "smith [1 0; 0 6]"),
-                ("PF2", "[{0 1} {}; {} {1 1}]", "smith", "smith [{1} {}; {} {0 1 1}]"), ("Z", "[0x3]", "smith", "smith [0x3]"),
-                ("Z", "[1 2; 2 4]", "integer-kernel", "integer-kernel [2; -1]"), ("Z", "[2x0]", "integer-kernel", "integer-kernel [0x0]"),
-                ("Z", "[1 2; 3 4]", "reduce", None), ("Z", "[0x3]", "reduce", "reduced [0x3]"), ("Z", "[3]", "reduce", "reduced [3]"),
+                ("PQ", "[{0 2}; {}]", "hermite", "hermite [{0 1}; {}]"),
+                ("Z", "[2 0; 0 3]", "smith", "smith [1 0; 0 6]"),
+                ("PF2", "[{0 1} {}; {} {1 1}]", "smith", "smith [{1} {}; {} {0 1 1}]"),
+                ("Z", "[0x3]", "smith", "smith [0x3]"),
+                ("Z", "[1 2; 2 4]", "integer-kernel", "integer-kernel [2; -1]"),
+                ("Z", "[2x0]", "integer-kernel", "integer-kernel [0x0]"),
+                ("Z", "[1 2; 3 4]", "reduce", None), ("Z", "[0x3]", "reduce", "reduced [0x3]"),
+                ("Z", "[3]", "reduce", "reduced [3]"),
                 ("Z", "[-3 0; 0 5]", "shortest", "shortest <3 0>"), ("Z", "[0 2; 2 0]", "shortest", "shortest <0 2>"),
-                ("Q", "[1 0; 0 1]", "frobenius", "frobenius {-1 1} {-1 1}"), ("Q", "[1 1; 0 1]", "frobenius", "frobenius {1 -2 1}"),
+                ("Q", "[1 0; 0 1]", "frobenius", "frobenius {-1 1} {-1 1}"),
+                ("Q", "[1 1; 0 1]", "frobenius", "frobenius {1 -2 1}"),
                 ("Q", "[0x0]", "frobenius", "frobenius"), ("Q", "[0 2; 1 0]", "jordan", "no-jordan {-2 0 1}"),
                 ("F2", "[0 1 0 0; 1 1 0 0; 0 0 0 1; 0 0 1 1]", "jordan", "no-jordan {1 1 1} {1 1 1}"),
-                ("Q", "[1/2 1 0; 0 1/2 0; 0 0 -3]", "jordan", "jordan -3:1 1/2:2"), ("Q", "[2 0; 0 2]", "jordan", "jordan 2:1 2:1"),
+                ("Q", "[1/2 1 0; 0 1/2 0; 0 0 -3]", "jordan", "jordan -3:1 1/2:2"),
+                ("Q", "[2 0; 0 2]", "jordan", "jordan 2:1 2:1"),
                 ("F7", "[3 1; 0 3]", "jordan", "jordan 3:2"), ("Q", "[0x0]", "jordan", "jordan")):
             found = self.one(f"matrix a {head} {text}", f"ask {kind} a")
             if result is None:
@@ -210,23 +247,33 @@ class AskTest(unittest.TestCase):
 
     def test_results_of_two_names(self):
         for head, first, word, second, kind, result in (
-                ("Q", "[1 2; 3 4]", "vector", "<5 11>", "solve", "solution <1 2>"), ("Q", "[0x2]", "vector", "<>", "solve", "solution <0 0>"),
-                ("Q", "[1 2; 2 4]", "vector", "<1 3>", "solve", "no-solution <-2 1>"), ("F7", "[2]", "vector", "<1>", "solve", "solution <4>"),
-                ("Q", "[2x0]", "vector", "<0 0>", "solve", "solution <>"), ("Z", "[2]", "vector", "<4>", "integer-solve", "integer-solution <2>"),
+                ("Q", "[1 2; 3 4]", "vector", "<5 11>", "solve", "solution <1 2>"),
+                ("Q", "[0x2]", "vector", "<>", "solve", "solution <0 0>"),
+                ("Q", "[1 2; 2 4]", "vector", "<1 3>", "solve", "no-solution <-2 1>"),
+                ("F7", "[2]", "vector", "<1>", "solve", "solution <4>"),
+                ("Q", "[2x0]", "vector", "<0 0>", "solve", "solution <>"),
+                ("Z", "[2]", "vector", "<4>", "integer-solve", "integer-solution <2>"),
                 ("Z", "[2]", "vector", "<1>", "integer-solve", "no-integer-solution <1/2>"),
-                ("Z", "[2 0; 0 3]", "vector", "<4 3>", "member", "member <2 1>"), ("Z", "[2]", "vector", "<3>", "member", "not-member <1/2>"),
-                ("Z", "[0x0]", "vector", "<>", "member", "member <>"), ("Q", "[1 1; 0 2]", "matrix", "[1 0; 0 2]", "similar", "similar"),
-                ("Q", "[1 1; 0 1]", "matrix", "[1 0; 0 1]", "similar", "not-similar"), ("Q", "[0x0]", "matrix", "[0x0]", "similar", "similar"),
+                ("Z", "[2 0; 0 3]", "vector", "<4 3>", "member", "member <2 1>"),
+                ("Z", "[2]", "vector", "<3>", "member", "not-member <1/2>"),
+                ("Z", "[0x0]", "vector", "<>", "member", "member <>"),
+                ("Q", "[1 1; 0 2]", "matrix", "[1 0; 0 2]", "similar", "similar"),
+                ("Q", "[1 1; 0 1]", "matrix", "[1 0; 0 1]", "similar", "not-similar"),
+                ("Q", "[0x0]", "matrix", "[0x0]", "similar", "similar"),
                 ("Z", "[1 2; 0 3]", "matrix", "[1 2; 1 5]", "lattice", "same-lattice"),
                 ("Z", "[1 2; 0 3]", "matrix", "[1 2]", "lattice", "other-lattice")):
-            self.assertEqual(self.one(f"matrix a {head} {first}", f"{word} b {head} {second}", f"ask {kind} a b"), "1 " + result)
+            self.assertEqual(self.one(f"matrix a {head} {first}", f"{word} b {head} {second}", f"ask {kind} a b"),
+                             "1 " + result)
         self.assertEqual(self.one("matrix a Q [3]", "ask similar a a"), "1 similar")
 
     def test_results_are_those_of_the_claims(self):
         take = Sample(292)
-        at = {"rank": 3, "determinant": 3, "characteristic": 3, "minimal": 3, "echelon": 3, "kernel": 3, "inverse": 3, "hermite": 3,
-              "smith": 3, "integer kernel": 2, "reduced": 2, "solution": 4, "no solution": 4, "singular": 3, "integer solution": 3,
-              "no integer solution": 3, "member": 3, "not member": 3, "shortest": 2, "frobenius": 3, "no jordan": 3, "jordan": 3}
+        at = {"rank": 3, "determinant": 3, "characteristic": 3, "minimal": 3, "echelon": 3, "kernel": 3, "inverse": 3,
+              "hermite": 3,
+              "smith": 3, "integer kernel": 2, "reduced": 2, "solution": 4, "no solution": 4, "singular": 3,
+              "integer solution": 3,
+              "no integer solution": 3, "member": 3, "not member": 3, "shortest": 2, "frobenius": 3, "no jordan": 3,
+              "jordan": 3}
         seen = set()
         for _ in range(6):
             for d in list(HEADS) + [Z] * 3:
@@ -261,9 +308,12 @@ class AskTest(unittest.TestCase):
         return write_vector(Q if name in ("no integer solution", "not member") else d, x)
 
     def test_claims_are_numbered(self):
-        out = run("matrix a Q [1]", "ask rank a", "ask shortest a", "ask invert a", "x", "ask hermite a", "ask kernel a", "claim 1", "claim 2",
+        out = run("matrix a Q [1]", "ask rank a", "ask shortest a", "ask invert a", "x", "ask hermite a",
+                  "ask kernel a", "claim 1", "claim 2",
                   "claim 3", "claim 4")
-        self.assertEqual(out[:6], ["1 rank 1", "refused DomainError", "2 inverse [1]", "error 5", "refused DomainError", "3 kernel [1x0]"])
+        self.assertEqual(out[:6],
+                         ["1 rank 1", "refused DomainError", "2 inverse [1]", "error 5", "refused DomainError",
+                          "3 kernel [1x0]"])
         self.assertEqual([read_claim(text)[0] for text in out[6:9]], ["rank", "inverse", "kernel"])
         self.assertEqual(out[9], "error 11")
         out = run("matrix a Q [1]", *["ask rank a"] * 12)
@@ -298,7 +348,8 @@ class AskTest(unittest.TestCase):
         for kind in TWO_MATRICES + WITH_VECTOR:
             word, text = ("matrix", "[1]") if kind in TWO_MATRICES else ("vector", "<1>")
             for first, second in (("Q", "Z"), ("Z", "Q"), ("F7", "F2"), ("F2", "Q"), ("Z", "F2")):
-                self.assertEqual(self.one(f"matrix a {first} [1]", f"{word} b {second} {text}", f"ask {kind} a b"), "refused DomainError")
+                self.assertEqual(self.one(f"matrix a {first} [1]", f"{word} b {second} {text}", f"ask {kind} a b"),
+                                 "refused DomainError")
         # Ahead of the sizes.
         self.assertEqual(self.one("matrix a Q [1 2]", "vector b Z <1 2 3>", "ask solve a b"), "refused DomainError")
         self.assertEqual(self.one("matrix a Q [1 2]", "matrix b F2 [1]", "ask similar a b"), "refused DomainError")
@@ -311,7 +362,8 @@ class AskTest(unittest.TestCase):
         self.assertEqual(self.one("matrix a Z [1 2]", "ask determinant a"), "refused ShapeError")
         self.assertEqual(self.one("matrix a Q [1]", "matrix b Q [1 0; 0 1]", "ask similar a b"), "refused ShapeError")
         self.assertEqual(self.one("matrix a Q [1]", "vector b Q <1 2>", "ask solve a b"), "refused ShapeError")
-        self.assertEqual(self.one("matrix a Z [1]", "vector b Z <1 2>", "ask integer-solve a b"), "refused ShapeError")
+        self.assertEqual(self.one("matrix a Z [1]", "vector b Z <1 2>", "ask integer-solve a b"),
+                         "refused ShapeError")
         self.assertEqual(self.one("matrix a Z [1]", "vector b Z <1 2>", "ask member a b"), "refused ShapeError")
         self.assertEqual(self.one("matrix a Z [1]", "matrix b Z [1 2]", "ask lattice a b"), "refused ShapeError")
 
@@ -340,7 +392,8 @@ def scripts(take, d):
             lines.append(f"matrix b {head} {write_matrix(d, b)}")
             names = "a b"
         if kind in WITH_VECTOR:
-            lines.append(f"vector b {head} {write_vector(d, take.vector(d, n if kind == 'member' else m, degree, digits))}")
+            v = take.vector(d, n if kind == "member" else m, degree, digits)
+            lines.append(f"vector b {head} {write_vector(d, v)}")
             names = "a b"
         yield lines, f"{kind} {names}"
 
@@ -363,12 +416,15 @@ class ClaimTest(unittest.TestCase):
         fractions = [f"{n}/{k}" for n, k in zip(numbers, (997, 991, 983, 977, 971, 967, 953, 947, 941) * 20) if n < k]
         entries = "; ".join(" ".join(fractions[6 * i:6 * i + 6]) for i in range(6))
         long = "; ".join(" ".join(str(take.between(-10 ** 9 + 1, 10 ** 9 - 1)) for _ in range(6)) for _ in range(6))
-        polynomials = "; ".join(" ".join("{" + " ".join(fractions[k + 9 * j + 3 * i:][:3]) + "}" for j in range(3)) for i, k in
-                                enumerate((0, 30, 60)))
+        rows = []
+        for k in (0, 30, 60):
+            rows.append(" ".join("{" + " ".join(fractions[k + 3 * j:k + 3 * j + 3]) + "}" for j in range(3)))
+        polynomials = "; ".join(rows)
         heads = (f"matrix q Q [{entries}]", f"matrix z Z [{long}]", f"matrix p PQ [{polynomials}]",
                  f"matrix e Q [{entries.replace('/997', '')}]", f"vector v Q <{' '.join(fractions[:6])}>")
         kinds = [f"{kind} q" for kind in OVER_FIELD if kind not in ("similar", "solve")]
-        kinds += ["similar q q", "similar q e", "solve q v", "hermite p", "smith p", "hermite z", "smith z", "determinant z", "reduce z",
+        kinds += ["similar q q", "similar q e", "solve q v", "hermite p", "smith p", "hermite z", "smith z",
+                  "determinant z", "reduce z",
                   "shortest z", "integer-kernel z", "lattice z z"]
         for kind in kinds:
             out = run(*heads, f"ask {kind}", "claim 1")
@@ -378,21 +434,27 @@ class ClaimTest(unittest.TestCase):
 
     def test_judge(self):
         good = write_claim(("inverse", Q, identity(Q, 2), identity(Q, 2)))
-        for text, verdict in ((good, "true"), (good.replace("inverse", "Inverse"), "false"), ("()", "false"), ("(1)", "false"),
-                              ('("inverse")', "false"), ("(T F -)", "false"), (good.replace("1 1", "1 2", 1), "false"),
-                              (good[:-1], "error 1"), (good + ")", "error 1"), (good + " ", "error 1"), (" " + good, "error 1"),
-                              (good.replace("(", "[", 1), "error 1"), (good.replace('"', "", 1), "error 1"), ("1", "error 1"),
+        for text, verdict in ((good, "true"), (good.replace("inverse", "Inverse"), "false"), ("()", "false"),
+                              ("(1)", "false"),
+                              ('("inverse")', "false"), ("(T F -)", "false"),
+                              (good.replace("1 1", "1 2", 1), "false"),
+                              (good[:-1], "error 1"), (good + ")", "error 1"), (good + " ", "error 1"),
+                              (" " + good, "error 1"),
+                              (good.replace("(", "[", 1), "error 1"), (good.replace('"', "", 1), "error 1"),
+                              ("1", "error 1"),
                               ("", "error 1"), (good.replace("2", "02", 1), "error 1"), (good + good, "error 1")):
             self.assertEqual(run("judge " + text), [verdict], text)
 
     def test_tuples_within_one_another(self):
-        for many, line in ((1, "false"), (59, "false"), (60, "false"), (61, "false"), (1000, "false"), (90000, "false"), (150000, "false")):
+        for many, line in ((1, "false"), (59, "false"), (60, "false"), (61, "false"), (1000, "false"),
+                           (90000, "false"), (150000, "false")):
             self.assertEqual(run("judge " + "(" * many + ")" * many), [line])
             self.assertEqual(run("judge " + "(" * many + ")" * (many - 1)), ["error 1"])
             self.assertEqual(run("judge " + "(" * many + ")" * (many + 1)), ["error 1"])
 
     def test_long_texts(self):
-        for many, line in ((199999, "true"), (200000, "true"), (200001, "false"), (200002, "false"), (300000, "false")):
+        for many, line in ((199999, "true"), (200000, "true"), (200001, "false"), (200002, "false"),
+                           (300000, "false")):
             text = long_claim(many)
             self.assertEqual(len(text), many)
             self.assertEqual(run("judge " + text), [line])
@@ -405,7 +467,8 @@ class ClaimTest(unittest.TestCase):
 
     def test_numbers_of_claims(self):
         heads = ("matrix a Q [1]", "ask rank a", "ask invert a")
-        for text in ("0", "3", "-1", "-2", "01", "02", "+1", "1.0", "", " 1", "1 ", "x", "1/1", "9" * 100, "9" * 100001, "\xb2"):
+        for text in ("0", "3", "-1", "-2", "01", "02", "+1", "1.0", "", " 1", "1 ", "x", "1/1", "9" * 100,
+                     "9" * 100001, "\xb2"):
             self.assertEqual(run(*heads, "claim " + text)[2], "error 4", text)
         out = run(*heads, "claim 2", "claim 1", "claim 2")
         self.assertEqual(out[2:], [write_claim(answer(("invert", Q, (1, 1, (((1, 1),),))))),

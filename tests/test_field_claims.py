@@ -94,7 +94,8 @@ class EliminationTest(ClaimTest):
             self.accept(("kernel", f, (2, 0, ((), ())), NONE, NONE, (0, 2, ()), NONE))
             self.accept(("kernel", f, NONE, NONE, NONE, NONE, NONE))
             # More columns than a has.
-            self.reject(("kernel", f, wide(f, 1, 1), table(f, (1, 0)), table(f, (1,), (0,)), (0, 1, ()), (1, 0, ((),))))
+            self.reject(("kernel", f, wide(f, 1, 1), table(f, (1, 0)), table(f, (1,), (0,)), (0, 1, ()),
+                         (1, 0, ((),))))
             # The kernel is larger.
             self.reject(("kernel", f, wide(f, 2, 2), table(f, (1,), (0,)), table(f, (1, 0)),
                          table(f, (1, 0)), table(f, (1,), (0,))))
@@ -160,7 +161,8 @@ class SimilarTest(ClaimTest):
             none = wide(f, 2, 2)
             self.reject(("similar", f, table(f, (1, 1), (0, 2)), none, none, none))
             self.accept(("similar", f, NONE, NONE, NONE, NONE))
-            self.reject(("similar", f, table(f, (1, 1), (0, 2)), table(f, (1, 0), (0, 2)), identity(f, 2), identity(f, 2)))
+            self.reject(("similar", f, table(f, (1, 1), (0, 2)), table(f, (1, 0), (0, 2)), identity(f, 2),
+                         identity(f, 2)))
 
     def test_not_similar(self):
         for f in (Q, F7):
@@ -374,7 +376,8 @@ class LimitTest(ClaimTest):
                 judged(("echelon", f, unit, unit, unit, unit))
                 judged(("solution", f, (0, n, ()), (), (one(f),) * n))
                 judged(("solution", f, (n, 0, ((),) * n), (from_field(f, 0),) * n, ()))
-                judged(("no solution", f, (n, 0, ((),) * n), (one(f),) * n, (one(f),) + (from_field(f, 0),) * (n - 1)))
+                judged(("no solution", f, (n, 0, ((),) * n), (one(f),) * n,
+                        (one(f),) + (from_field(f, 0),) * (n - 1)))
                 judged(("rank", f, (0, n, ()), 0, NONE, (n, 0, ((),) * n), NONE, (0, n, ())))
                 judged(("kernel", f, (n, 0, ((),) * n), NONE, NONE, (0, n, ()), NONE))
                 judged(("singular", f, wide(f, n, n), (one(f),) * n))
@@ -396,7 +399,8 @@ class LimitTest(ClaimTest):
 
     def test_domains_that_are_no_fields(self):
         for d in NO_FIELDS:
-            for claim in (("inverse", d, NONE, NONE), ("solution", d, NONE, (), ()), ("frobenius", d, NONE, (), NONE, NONE),
+            for claim in (("inverse", d, NONE, NONE), ("solution", d, NONE, (), ()),
+                          ("frobenius", d, NONE, (), NONE, NONE),
                           ("jordan", d, NONE, (), NONE, NONE), ("echelon", d, NONE, NONE, NONE, NONE),
                           ("kernel", d, NONE, NONE, NONE, NONE, NONE), ("similar", d, NONE, NONE, NONE, NONE),
                           ("rank", d, NONE, 0, NONE, NONE, NONE, NONE), ("minimal", d, NONE, (1,), (), NONE, NONE)):

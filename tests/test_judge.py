@@ -173,7 +173,8 @@ class AnyValueTest(ClaimTest):
 
     def test_names_with_any_parts(self):
         big = 10 ** 6000
-        parts = (None, True, False, 0, 1, -1, big, "", "Q", (), ((),), ("Q",), ("Z",), ("F", 2), ("F", big), ("F", -big),
+        parts = (None, True, False, 0, 1, -1, big, "", "Q", (), ((),), ("Q",), ("Z",), ("F", 2), ("F", big),
+                 ("F", -big),
                  ("P", ("Q",)), (0, 0, ()), (0, 0, ((),)), (1, 1, ((1,),)), (big, big, ()), (-1, 0, ()), (1, 1, (1,)),
                  (1, 1, (("x",),)), (None, None, None), nested(58), [], ["Q"], (0, 0, []), (2, 2, ((1, 2), (3, 4))))
         take = Sample(251)
@@ -204,15 +205,19 @@ class AnyValueTest(ClaimTest):
     def test_values_with_many_parts(self):
         many = 199990
         long = tuple(range(many))
-        for value in (long, ("rank",) + long, (long,), ("rank", long), nested(50, long), ("solution", Q, (0, 0, ()), long, long[:9]),
-                      ("solution", F2, (1, many, ((1,) * many,)), (1,), ()), ("solution", F2, (many, 0, ((),) * many), (), ()),
+        for value in (long, ("rank",) + long, (long,), ("rank", long), nested(50, long),
+                      ("solution", Q, (0, 0, ()), long, long[:9]),
+                      ("solution", F2, (1, many, ((1,) * many,)), (1,), ()),
+                      ("solution", F2, (many, 0, ((),) * many), (), ()),
                       ("factors", F2, (1,) * many, ()), ("factors", F2, (1,), (((0, 1), 1),) * (many // 5)),
-                      ("factors", F2, (1,), ((1,) * many,)), ("jordan", F2, (0, 0, ()), ((1, 1),) * (many // 3), (0, 0, ()), (0, 0, ())),
+                      ("factors", F2, (1,), ((1,) * many,)),
+                      ("jordan", F2, (0, 0, ()), ((1, 1),) * (many // 3), (0, 0, ()), (0, 0, ())),
                       ("frobenius", F2, (0, 0, ()), ((1, 1),) * (many // 3), (0, 0, ()), (0, 0, ())),
                       ("determinant", F2, (0, 0, ()), 1, long, (0, 0, ()), (0, 0, ())),
                       ("member", (1, 1, ((1,),)), long, (1,)), ("not member", (0, 1, ()), long, long),
                       ("greatest", P2, (1,) * (many // 2), (1,) * (many // 2 - 9), (1,), (1,), (1,), (1,), (1,)),
-                      ("greatest", PQ, ((1, 2),) * (many // 3), (), (), (), (), (), ()), (("rank",),) * many, ("",) * many):
+                      ("greatest", PQ, ((1, 2),) * (many // 3), (), (), (), (), (), ()), (("rank",),) * many,
+                      ("",) * many):
             self.reject(value)
         n = 40
         rows = tuple(tuple((1, (i * j) % 7 + 1) for j in range(n)) for i in range(n))
@@ -237,14 +242,18 @@ class AnyValueTest(ClaimTest):
     def test_integers_of_any_size(self):
         big = 10 ** 100000
         for claim in (("inverse", ("F", big), (0, 0, ()), (0, 0, ())), ("inverse", Q, (big, big, ()), (0, 0, ())),
-                      ("rank", Q, (0, 0, ()), big) + ((0, 0, ()),) * 4, ("other lattice", (0, 1, ()), (1, 1, ((1,),)), big, 0, ((1, 2),)),
-                      ("other lattice", (0, 1, ()), (1, 1, ((1,),)), 1, big, ((1, 2),)), ("factors", F7, (0, 1), (((0, 1), big),)),
-                      ("factors", F7, (big, 1), (((big, 1), 1),)), ("jordan", Q, identity(Q, 1), (((1, 1), big),)) + (identity(Q, 1),) * 2,
+                      ("rank", Q, (0, 0, ()), big) + ((0, 0, ()),) * 4,
+                      ("other lattice", (0, 1, ()), (1, 1, ((1,),)), big, 0, ((1, 2),)),
+                      ("other lattice", (0, 1, ()), (1, 1, ((1,),)), 1, big, ((1, 2),)),
+                      ("factors", F7, (0, 1), (((0, 1), big),)),
+                      ("factors", F7, (big, 1), (((big, 1), 1),)),
+                      ("jordan", Q, identity(Q, 1), (((1, 1), big),)) + (identity(Q, 1),) * 2,
                       ("determinant", F2, (1, 1, ((1,),)), 1, (big,), (1, 1, ((1,),)), (1, 1, ((1,),)))):
             self.reject(claim)
         self.accept(("integer solution", (1, 1, ((big,),)), (big * big,), (big,)))
         self.reject(("integer solution", (1, 1, ((big,),)), (big * big + 1,), (big,)))
-        self.accept(("shortest", (1, 1, ((big,),)), (-big,), (1, 1, ((big,),)), identity(Z, 1), identity(Z, 1), (-1,)))
+        self.accept(("shortest", (1, 1, ((big,),)), (-big,), (1, 1, ((big,),)), identity(Z, 1), identity(Z, 1),
+                     (-1,)))
         self.accept(("greatest", Z, big, big, big, 1, 0, 1, 1))
         self.accept(("inverse", Q, (1, 1, (((1, big),),)), (1, 1, (((big, 1),),))))
 

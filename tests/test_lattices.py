@@ -94,7 +94,7 @@ class OrthogonalTest(unittest.TestCase):
 
     def test_rows_out_of_mu_and_squares(self):
         for b in bases(202):
-            m, n = b[:2]
+            m = b[0]
             answer = orthogonal(b)
             self.assertIs(type(answer), tuple)
             mu, squares = answer

@@ -74,7 +74,8 @@ class HermiteTest(ClaimTest):
     def test_integers(self):
         good = ("hermite", Z, table(Z, (2, 3), (4, 4)), table(Z, (2, 1), (0, 2)), table(Z, (-1, 1), (2, -1)),
                 table(Z, (1, 1), (2, 1)))
-        self.check_form(good, {1: Q}, {2: table(Z, (2, 3), (4, 5))}, {2: table(Z, (2, 3))}, {3: table(Z, (2, 1), (0, 1))},
+        self.check_form(good, {1: Q}, {2: table(Z, (2, 3), (4, 5))}, {2: table(Z, (2, 3))},
+                        {3: table(Z, (2, 1), (0, 1))},
                         {3: table(Z, (2, 3), (0, 2)), 4: table(Z, (1, 0), (2, -1)), 5: table(Z, (1, 0), (2, -1))},
                         {4: table(Z, (-1, 1), (2, 1))}, {4: identity(Z, 3)}, {5: table(Z, (1, 1), (2, 2))},
                         {3: table(Z, (2, 1, 0), (0, 2, 0))}, {4: table(Z, (-1, 1))})
@@ -105,18 +106,21 @@ class HermiteTest(ClaimTest):
             good = ("hermite", e, (2, 1, ((x,), (x_plus(f, 1),))), (2, 1, ((unit,), (none,))),
                     (2, 2, ((poly(f, -1), unit), (x_plus(f, 1), poly(f, 0, -1)))),
                     (2, 2, ((x, unit), (x_plus(f, 1), unit))))
-            self.check_form(good, {1: f}, {1: Z}, {2: (2, 1, ((x,), (x_plus(f, 2),)))}, {3: (2, 1, ((unit,), (unit,)))},
+            self.check_form(good, {1: f}, {1: Z}, {2: (2, 1, ((x,), (x_plus(f, 2),)))},
+                            {3: (2, 1, ((unit,), (unit,)))},
                             {3: (2, 1, ((c,), (none,)))}, {4: identity(e, 2)}, {5: identity(e, 2)},
                             {2: (1, 1, ((x,),))}, {4: identity(e, 3)}, {5: identity(e, 1)})
             self.check_forms(e, [(x, c), (none, x)], [(x, none), (none, unit)], [(none, x), (none, none)],
                              [(x, poly(f, 1, 1)), (none, poly(f, 0, 0, 1))])
-            self.check_no_forms(e, [(x, x), (none, x)], [(poly(f, 0, 2), c), (none, x)], [(x, c), (none, poly(f, 0, 2))],
+            self.check_no_forms(e, [(x, x), (none, x)], [(poly(f, 0, 2), c), (none, x)],
+                                [(x, c), (none, poly(f, 0, 2))],
                                 [(x, c), (none, unit)], [(none, none), (none, x)], [(x, c), (x, none)])
             # A polynomial that is no constant has no inverse.
             self.reject(("hermite", e, (1, 1, ((unit,),)), (1, 1, ((x,),)), (1, 1, ((x,),)), (1, 1, ((x,),))))
             # A constant has.
             half = ((1, 2),) if f == Q else ((f[1] + 1) // 2,)
-            self.accept(("hermite", e, (1, 1, ((poly(f, 0, 2),),)), (1, 1, ((x,),)), (1, 1, ((half,),)), (1, 1, ((c,),))))
+            self.accept(("hermite", e, (1, 1, ((poly(f, 0, 2),),)), (1, 1, ((x,),)), (1, 1, ((half,),)),
+                         (1, 1, ((c,),))))
 
     def test_without_entries(self):
         for e in (Z, PQ, P2):
@@ -134,7 +138,8 @@ class SmithTest(ClaimTest):
         good = ("smith", Z, table(Z, (2, 0), (0, 3)), table(Z, (1, 0), (0, 6)), table(Z, (-1, 1), (3, -2)),
                 table(Z, (1, 3), (1, 2)), table(Z, (2, 1), (3, 1)), table(Z, (-2, 3), (1, -1)))
         self.check_form(good, {1: Q}, {2: table(Z, (2, 0), (0, 4))}, {2: table(Z, (2, 0))},
-                        {3: table(Z, (1, 0), (0, -6))}, {3: table(Z, (1, 0, 0), (0, 6, 0))}, {4: table(Z, (1, 0), (0, 1))},
+                        {3: table(Z, (1, 0), (0, -6))}, {3: table(Z, (1, 0, 0), (0, 6, 0))},
+                        {4: table(Z, (1, 0), (0, 1))},
                         {5: table(Z, (1, 0), (0, 1))}, {6: table(Z, (2, 1), (3, 2))}, {7: table(Z, (-2, 3), (1, 1))},
                         {4: identity(Z, 3)}, {5: identity(Z, 3)}, {6: identity(Z, 1)}, {7: identity(Z, 1)})
 
@@ -152,10 +157,13 @@ class SmithTest(ClaimTest):
         for f in (Q, F7):
             e = ("P", f)
             x, c, none, unit = x_plus(f, 0), poly(f, 2), (), one(e)
-            self.judge_form(self.accept, e, [(unit, none), (none, x)], [(x, none), (none, x)], [(x, none), (none, none)],
+            self.judge_form(self.accept, e, [(unit, none), (none, x)], [(x, none), (none, x)],
+                            [(x, none), (none, none)],
                             [(x, none), (none, poly(f, 0, 1, 1))])
-            self.judge_form(self.reject, e, [(x, none), (none, unit)], [(c, none), (none, x)], [(unit, none), (none, poly(f, 0, 2))],
-                            [(x, none), (none, x_plus(f, 1))], [(none, none), (none, unit)], [(unit, unit), (none, x)])
+            self.judge_form(self.reject, e, [(x, none), (none, unit)], [(c, none), (none, x)],
+                            [(unit, none), (none, poly(f, 0, 2))],
+                            [(x, none), (none, x_plus(f, 1))], [(none, none), (none, unit)],
+                            [(unit, unit), (none, x)])
         for e in (Z, PQ, P7):
             for m, n in ((0, 0), (0, 3), (2, 0)):
                 a, left, right = zero_matrix(e, m, n), identity(e, m), identity(e, n)
@@ -165,7 +173,8 @@ class SmithTest(ClaimTest):
         none = zero_matrix(Z, 1, 1)
         for claim in (("smith", Z, identity(Z, 1), none, none, identity(Z, 1), none, identity(Z, 1)),
                       ("smith", Z, identity(Z, 1), none, identity(Z, 1), none, identity(Z, 1), none),
-                      ("smith", Z, identity(Z, 1), table(Z, (2,)), table(Z, (2,)), identity(Z, 1), identity(Z, 1), identity(Z, 1))):
+                      ("smith", Z, identity(Z, 1), table(Z, (2,)), table(Z, (2,)), identity(Z, 1), identity(Z, 1),
+                       identity(Z, 1))):
             self.reject(claim)
 
 
@@ -179,7 +188,8 @@ class FactorsTest(ClaimTest):
             g = multiply(e, poly(f, 2), multiply(e, first, power(e, second, 2)))
             good = ("factors", f, g, ((first, 1), (second, 2)))
             self.check_form(good, {1: e}, {1: Z}, {1: Q}, {2: multiply(e, g, poly(f, -1, 1))}, {2: ()}, {2: first},
-                            {3: ((first, 2), (second, 1))}, {3: ((first, 1), (second, 1))}, {3: ((second, 2), (first, 1))},
+                            {3: ((first, 2), (second, 1))}, {3: ((first, 1), (second, 1))},
+                            {3: ((second, 2), (first, 1))},
                             {3: ((first, 1), (second, 1), (second, 1))}, {3: ((first, 1),)}, {3: ()},
                             {3: ((first, 1), (second, 2), (x_plus(f, 3), 0))},
                             {3: ((first, 1), (second, 3), (x_plus(f, 2), -1))},
@@ -225,7 +235,8 @@ class SystemTest(ClaimTest):
 
     def test_integer_solution(self):
         self.check_form(("integer solution", table(Z, (2, 3), (0, 5)), (8, 10), (1, 2)),
-                        {1: table(Z, (2, 3), (1, 5))}, {1: table(Q, (2, 3), (0, 5))}, {1: table(Z, (2, 3))}, {2: (8, 11)},
+                        {1: table(Z, (2, 3), (1, 5))}, {1: table(Q, (2, 3), (0, 5))}, {1: table(Z, (2, 3))},
+                        {2: (8, 11)},
                         {2: (8,)}, {2: (8, 10, 0)}, {2: vector(Q, 8, 10)}, {3: (1, 3)}, {3: (1,)}, {3: (1, 2, 0)},
                         {3: vector(Q, 1, 2)})
         self.accept(("integer solution", NONE, (), ()))
@@ -237,7 +248,8 @@ class SystemTest(ClaimTest):
 
     def test_no_integer_solution(self):
         half = (1, 2)
-        self.check_form(("no integer solution", table(Z, (2, 4)), (1,), (half,)), {1: table(Z, (2, 3))}, {1: table(Q, (2, 4))},
+        self.check_form(("no integer solution", table(Z, (2, 4)), (1,), (half,)), {1: table(Z, (2, 3))},
+                        {1: table(Q, (2, 4))},
                         {2: (2,)}, {2: ((1, 1),)}, {2: ()}, {2: (1, 1)}, {3: ((1, 1),)}, {3: ((1, 4),)}, {3: (1,)},
                         {3: (half, half)}, {3: ()}, {3: ((2, 4),)})
         self.accept(("no integer solution", table(Z, (0, 0)), (1,), (half,)))
@@ -246,18 +258,25 @@ class SystemTest(ClaimTest):
         self.reject(("no integer solution", (0, 2, ()), (), ()))
 
     def test_integer_kernel(self):
-        good = ("integer kernel", table(Z, (2, 4, 6)), table(Z, (1, 0), (1, 3), (-1, -2)), table(Z, (1, 0, 0), (-1, -1, -2)),
+        good = ("integer kernel", table(Z, (2, 4, 6)), table(Z, (1, 0), (1, 3), (-1, -2)),
+                table(Z, (1, 0, 0), (-1, -1, -2)),
                 table(Q, (1,)), (3, 1, (((1, 2),), ((0, 1),), ((0, 1),))))
-        self.check_form(good, {1: table(Z, (2, 4, 7))}, {1: table(Q, (2, 4, 6))}, {2: table(Z, (1, 0), (1, 3), (-1, -1))},
+        self.check_form(good, {1: table(Z, (2, 4, 7))}, {1: table(Q, (2, 4, 6))},
+                        {2: table(Z, (1, 0), (1, 3), (-1, -1))},
                         {2: table(Z, (2, 0), (2, 3), (-2, -2))}, {3: table(Z, (1, 0, 0), (1, 1, 1))},
-                        {3: table(Q, (1, 0, 0), (-1, -1, -2))}, {4: table(Z, (1,))}, {4: table(Q, (2,))}, {5: table(Z, (1,), (0,), (0,))},
-                        {5: table(Q, (1,), (0,), (0,))}, {4: table(Q, (1, 0))}, {2: table(Z, (1,), (1,), (-1,)), 3: table(Z, (1, 0, 0))})
+                        {3: table(Q, (1, 0, 0), (-1, -1, -2))}, {4: table(Z, (1,))}, {4: table(Q, (2,))},
+                        {5: table(Z, (1,), (0,), (0,))},
+                        {5: table(Q, (1,), (0,), (0,))}, {4: table(Q, (1, 0))},
+                        {2: table(Z, (1,), (1,), (-1,)), 3: table(Z, (1, 0, 0))})
         # The columns span the kernel over the fractions, but not all integer vectors in it.
-        self.reject(("integer kernel", table(Z, (1, 1)), table(Z, (2,), (-2,)), table(Z, (1, 0)), table(Q, (1,)), table(Q, (1,), (0,))))
+        self.reject(("integer kernel", table(Z, (1, 1)), table(Z, (2,), (-2,)), table(Z, (1, 0)), table(Q, (1,)),
+                     table(Q, (1,), (0,))))
         halves = (1, 2, (((1, 2), (0, 1)),))
-        self.reject(("integer kernel", table(Z, (1, 1)), table(Z, (2,), (-2,)), halves, table(Q, (1,)), table(Q, (1,), (0,))))
+        self.reject(("integer kernel", table(Z, (1, 1)), table(Z, (2,), (-2,)), halves, table(Q, (1,)),
+                     table(Q, (1,), (0,))))
         # The kernel is larger.
-        self.reject(("integer kernel", table(Z, (0, 0)), table(Z, (1,), (0,)), table(Z, (1, 0)), table(Q, (1,)), table(Q, (1,), (0,))))
+        self.reject(("integer kernel", table(Z, (0, 0)), table(Z, (1,), (0,)), table(Z, (1, 0)), table(Q, (1,)),
+                     table(Q, (1,), (0,))))
         self.accept(("integer kernel", NONE, NONE, NONE, NONE, NONE))
         self.accept(("integer kernel", (0, 2, ()), identity(Z, 2), identity(Z, 2), NONE, (2, 0, ((), ()))))
         self.accept(("integer kernel", identity(Z, 2), (2, 0, ((), ())), (0, 2, ()), identity(Q, 2), identity(Q, 2)))
@@ -269,7 +288,8 @@ class LatticeTest(ClaimTest):
 
     def test_member(self):
         self.check_form(("member", table(Z, (1, 2), (0, 3)), (2, 1), (2, -1)), {1: table(Z, (1, 2), (0, 4))},
-                        {1: table(Q, (1, 2), (0, 3))}, {2: (2, 2)}, {2: (2,)}, {2: vector(Q, 2, 1)}, {3: (2, 1)}, {3: (2,)},
+                        {1: table(Q, (1, 2), (0, 3))}, {2: (2, 2)}, {2: (2,)}, {2: vector(Q, 2, 1)}, {3: (2, 1)},
+                        {3: (2,)},
                         {3: (2, -1, 0)}, {3: vector(Q, 2, -1)})
         self.accept(("member", (0, 2, ()), (0, 0), ()))
         self.reject(("member", (0, 2, ()), (0, 1), ()))
@@ -288,8 +308,10 @@ class LatticeTest(ClaimTest):
         a, b = table(Z, (2, 1), (0, 3)), table(Z, (2, 4), (2, 1), (4, 5))
         u, v = table(Z, (1, 1), (1, 0), (2, 1)), table(Z, (0, 1, 0), (1, -1, 0))
         self.check_form(("same lattice", a, b, u, v), {1: table(Z, (2, 1), (0, 6))}, {1: table(Q, (2, 1), (0, 3))},
-                        {2: table(Z, (2, 4), (2, 1), (4, 6))}, {3: table(Z, (1, 1), (1, 0), (2, 2))}, {3: identity(Z, 2)},
-                        {3: table(Q, (1, 1), (1, 0), (2, 1))}, {4: table(Z, (0, 1, 0), (1, -1, 1))}, {4: identity(Z, 3)},
+                        {2: table(Z, (2, 4), (2, 1), (4, 6))}, {3: table(Z, (1, 1), (1, 0), (2, 2))},
+                        {3: identity(Z, 2)},
+                        {3: table(Q, (1, 1), (1, 0), (2, 1))}, {4: table(Z, (0, 1, 0), (1, -1, 1))},
+                        {4: identity(Z, 3)},
                         {2: table(Z, (4, 2), (0, 3)), 3: table(Z, (2, 0), (0, 1)), 4: identity(Z, 2)})
         self.accept(("same lattice", b, a, v, u))
         self.accept(("same lattice", (0, 2, ()), (0, 2, ()), NONE, NONE))
@@ -301,10 +323,13 @@ class LatticeTest(ClaimTest):
         half, none = (1, 2), (0, 1)
         a, b = table(Z, (0, 2), (1, 0)), table(Z, (0, 2), (2, 0))
         good = ("other lattice", a, b, 0, 1, (half, none))
-        self.check_form(good, {1: b}, {1: table(Q, (0, 2), (1, 0))}, {2: a}, {3: 1}, {3: 2}, {3: -1}, {4: 0}, {4: 2}, {4: -1},
-                        {5: (none, none)}, {5: (none, half)}, {5: (half,)}, {5: (half, none, none)}, {3: False}, {4: True})
+        self.check_form(good, {1: b}, {1: table(Q, (0, 2), (1, 0))}, {2: a}, {3: 1}, {3: 2}, {3: -1}, {4: 0}, {4: 2},
+                        {4: -1},
+                        {5: (none, none)}, {5: (none, half)}, {5: (half,)}, {5: (half, none, none)}, {3: False},
+                        {4: True})
         good = ("other lattice", b, a, 1, 1, (half, none))
-        self.check_form(good, {1: a}, {2: b}, {3: 0}, {3: 2}, {3: True}, {4: 0}, {4: 2}, {4: -1}, {4: True}, {5: (none, half)})
+        self.check_form(good, {1: a}, {2: b}, {3: 0}, {3: 2}, {3: True}, {4: 0}, {4: 2}, {4: -1}, {4: True},
+                        {5: (none, half)})
         self.accept(("other lattice", (0, 1, ()), table(Z, (1,)), 1, 0, (half,)))
         self.reject(("other lattice", (0, 1, ()), table(Z, (1,)), 0, 0, (half,)))
         self.reject(("other lattice", (0, 1, ()), (1, 2, ((1, 0),)), 1, 0, (half, none)))
@@ -315,13 +340,16 @@ class LatticeTest(ClaimTest):
     def test_reduced(self):
         a, r = table(Z, (1, 2), (3, 4)), table(Z, (1, 0), (0, 2))
         u, v = table(Z, (-2, 1), (3, -1)), table(Z, (1, 1), (3, 2))
-        self.check_form(("reduced", a, r, u, v), {1: table(Z, (1, 2), (3, 5))}, {1: table(Z, (1, 2))}, {1: table(Q, (1, 2), (3, 4))},
-                        {2: table(Z, (1, 0), (0, 1))}, {2: a, 3: identity(Z, 2), 4: identity(Z, 2)}, {3: table(Z, (-2, 1), (3, 1))},
+        self.check_form(("reduced", a, r, u, v), {1: table(Z, (1, 2), (3, 5))}, {1: table(Z, (1, 2))},
+                        {1: table(Q, (1, 2), (3, 4))},
+                        {2: table(Z, (1, 0), (0, 1))}, {2: a, 3: identity(Z, 2), 4: identity(Z, 2)},
+                        {3: table(Z, (-2, 1), (3, 1))},
                         {3: identity(Z, 3)}, {4: table(Z, (1, 1), (3, 1))}, {4: identity(Z, 1)},
                         {2: table(Z, (0, 2), (1, 0)), 3: table(Z, (3, -1), (-2, 1)), 4: table(Z, (1, 1), (2, 3))})
         for b in ([(2, 0), (1, 2)], [(4, 0, 0, 0), (0, 2, 2, 2)], [(5,)], [(0, 0, 1)]):
             self.judge_basis(self.accept, b)
-        for b in ([(2, 0), (2, 2)], [(4, 0, 0, 0), (0, 3, 1, 1)], [(0,)], [(1, 0), (0, 0)], [(1,), (0,)], [(1, 2), (2, 4)],
+        for b in ([(2, 0), (2, 2)], [(4, 0, 0, 0), (0, 3, 1, 1)], [(0,)], [(1, 0), (0, 0)], [(1,), (0,)],
+                  [(1, 2), (2, 4)],
                   [(200, 0), (101, 200)], [(3, 0), (0, 2)]):
             self.judge_basis(self.reject, b)
         self.accept(("reduced", (0, 3, ()), (0, 3, ()), NONE, NONE))
@@ -342,8 +370,10 @@ class LatticeTest(ClaimTest):
         a, r = table(Z, (1, 2), (3, 4)), table(Z, (1, 0), (0, 2))
         u, v = table(Z, (-2, 1), (3, -1)), table(Z, (1, 1), (3, 2))
         good = ("shortest", a, (-1, 0), r, u, v, (-1, 0))
-        self.check_form(good, {1: table(Z, (1, 2), (3, 5))}, {2: (1, 0)}, {2: (0, 2), 6: (0, 1)}, {2: (0, 0), 6: (0, 0)},
-                        {2: (-1,)}, {2: (-1, 0, 0)}, {2: vector(Q, -1, 0)}, {3: a, 4: identity(Z, 2), 5: identity(Z, 2)}, {3: identity(Z, 2)},
+        self.check_form(good, {1: table(Z, (1, 2), (3, 5))}, {2: (1, 0)}, {2: (0, 2), 6: (0, 1)},
+                        {2: (0, 0), 6: (0, 0)},
+                        {2: (-1,)}, {2: (-1, 0, 0)}, {2: vector(Q, -1, 0)},
+                        {3: a, 4: identity(Z, 2), 5: identity(Z, 2)}, {3: identity(Z, 2)},
                         {4: v}, {5: u}, {6: (1, 0)}, {6: (-1,)}, {6: (-1, 0, 0)}, {6: vector(Q, -1, 0)})
         # The last row of a reduced basis may be the shortest one.
         rows = table(Z, (4, 0, 0, 0), (0, 2, 2, 2))

@@ -84,7 +84,8 @@ class BoundTest(unittest.TestCase):
 
     def test_known_bounds(self):
         self.assertEqual((determinant_bound(NONE), coefficient_bound(NONE)), (1, 1))
-        self.assertEqual((determinant_bound(integers((3, 4), (0, 0))), coefficient_bound(integers((3, 4), (0, 0)))), (6, 14))
+        self.assertEqual((determinant_bound(integers((3, 4), (0, 0))), coefficient_bound(integers((3, 4), (0, 0)))),
+                         (6, 14))
         self.assertEqual((determinant_bound(integers((-5,))), coefficient_bound(integers((-5,)))), (6, 7))
         self.assertEqual(determinant_bound(integers((1, 1), (1, 2))), 2 * 3)
 
@@ -144,7 +145,8 @@ class DeterminantTest(unittest.TestCase):
         self.assertEqual(determinant_by_primes(integers((-3,))), (-3, ((FIRST, FIRST - 3),)))
         self.assertEqual(determinant_by_primes(integers((0,))), (0, ((FIRST, 0),)))
         n = -FIRST * PRIMES[1]
-        self.assertEqual(determinant_by_primes(integers((n,))), (n, ((FIRST, 0), (PRIMES[1], 0), (PRIMES[2], n % PRIMES[2]))))
+        self.assertEqual(determinant_by_primes(integers((n,))),
+                         (n, ((FIRST, 0), (PRIMES[1], 0), (PRIMES[2], n % PRIMES[2]))))
 
 
 class CharacteristicTest(unittest.TestCase):
@@ -325,7 +327,8 @@ class HermiteTest(unittest.TestCase):
         self.assertEqual(hermite_by_modulus(integers((0, 6), (6, 0))), integers((6, 0), (0, 6)))
         self.assertEqual(hermite_by_modulus(integers((BIG, 0), (1, BIG))), integers((1, BIG), (0, BIG * BIG)))
         # The determinant is a pivot, alone or several times.
-        self.assertEqual(hermite_by_modulus(integers((0, 0, 7), (1, 0, 0), (0, 1, 0))), integers((1, 0, 0), (0, 1, 0), (0, 0, 7)))
+        self.assertEqual(hermite_by_modulus(integers((0, 0, 7), (1, 0, 0), (0, 1, 0))),
+                         integers((1, 0, 0), (0, 1, 0), (0, 0, 7)))
         self.assertEqual(hermite_by_modulus(integers((7, 0), (3, 1))), integers((1, 5), (0, 7)))
 
 

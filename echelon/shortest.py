@@ -1,7 +1,5 @@
 """Shortest and closest vectors of lattices (points 129 and 130)."""
 
-from math import lcm
-
 from echelon.errors import ShapeError, SingularError
 from echelon.lattices import need_basis, reduce_basis
 from echelon.matrices import need_length, row_times
@@ -17,18 +15,15 @@ MOST_ROWS = 6
 class Search:
     """A walk through the combinations of the rows of a reduced basis that are near to a goal.
 
-    The goal is given by its shadows on the rows, and it is goal / scale in truth. All squares
-    of distances are multiplied by one number, so that they are integers; what the goal has
-    outside of all combinations of the rows is left out of them.
+    The goal is given by its shadows on the rows, and combinations are taken times the scale.
+    What is left of the difference beside the first k rows has a square that is an integer if it
+    is multiplied by d[k]: a determinant of products of rows.
     """
 
     def __init__(self, rows, goal, scale):
         self.d, self.shadows = gram_schmidt(rows)
         self.goal = goal
         self.scale = scale
-        pairs = [self.d[k] * self.d[k + 1] for k in range(len(rows))]
-        self.unit = lcm_of(pairs)
-        self.weights = [self.unit // pair for pair in pairs]
         self.best = None
         self.found = []
 
@@ -46,11 +41,15 @@ class Search:
         nearest = (2 * gap + step) // (2 * step)
         # Away from the nearest coefficient the distance grows; the best one so far is the limit.
         for x, way in ((nearest, 1), (nearest - 1, -1)):
-            reached = total + (gap - step * x) * (gap - step * x) * self.weights[at]
-            while self.best is None or reached <= self.best:
+            reached = self.square(at, gap - step * x, total)
+            while self.best is None or reached <= self.best * self.d[at]:
                 self.walk([x] + chosen, reached, with_zero)
                 x += way
-                reached = total + (gap - step * x) * (gap - step * x) * self.weights[at]
+                reached = self.square(at, gap - step * x, total)
+
+    def square(self, at, shadow, total):
+        """Return the square of what is left beside one row less, times d[at]."""
+        return (self.d[at] * total + shadow * shadow) // self.d[at + 1]
 
     def keep(self, chosen, total):
         """Keep a combination that is at least as good as those before it."""
@@ -60,20 +59,12 @@ class Search:
         self.found.append(chosen)
 
 
-def lcm_of(numbers):
-    """Return the least common multiple of integers above zero."""
-    out = 1
-    for k in numbers:
-        out = lcm(out, k)
-    return out
-
-
 def short_combinations(rows):
     """Return (combinations, s): those of a reduced basis with the least square s above zero."""
     search = Search(rows, [0] * len(rows), 1)
-    search.best = search.unit * min([product_of_rows(row, row) for row in rows])
+    search.best = min([product_of_rows(row, row) for row in rows])
     search.walk([], 0, False)
-    return search.found, search.best // search.unit
+    return search.found, search.best
 
 
 def need_few_rows(b):
@@ -121,8 +112,8 @@ def closest(b, v):
     c = reduce_basis(b)[0]
     goal, scale = cleared_row(RATIONAL, v)
     d, shadows = gram_schmidt(c[2])
-    search = Search(c[2], shadow_of(c[2], d, shadows, goal), scale)
-    search.walk([], 0, True)
+    line = shadow_of(c[2], d, shadows, goal)
+    search = Search(c[2], line, scale)
+    search.walk([], line[-1], True)
     w = min([row_times(WHOLE, tuple(x), c) for x in search.found])
-    rest = [x - scale * y for x, y in zip(goal, w)]
-    return w, fraction(product_of_rows(rest, rest), scale * scale)
+    return w, fraction(search.best, scale * scale)

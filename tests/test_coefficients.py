@@ -3,7 +3,9 @@
 import math
 import unittest
 
-from echelon.coefficients import bezout, cleared, divided, restored, without_content
+from echelon.coefficients import (
+    bezout, cleared, convolved, convolved_at_once, divided, restored, without_content,
+)
 from tests.sample import Sample
 
 Q = ("Q",)
@@ -18,6 +20,29 @@ class CoefficientsTest(unittest.TestCase):
     def test_restored_takes_zeros_off_the_end(self):
         self.assertEqual(restored(Q, [3, 0, -10, 0], 12), ((1, 4), (0, 1), (-5, 6)))
         self.assertEqual(restored(("F", 7), [1, 9, 14], 3), (5, 3))
+
+    def test_long_lists_are_multiplied_at_once(self):
+        take = Sample(42)
+        for m, n, digits in ((1, 1, 1), (3, 2, 1), (41, 41, 1), (41, 100, 40), (60, 50, 5), (200, 41, 300)):
+            for sign in (1, -1, 0):
+                a = [sign * take.signed(digits) for _ in range(m)]
+                b = [take.signed(digits) for _ in range(n)]
+                self.check_product(a, b)
+                self.check_product([abs(c) for c in a], [-abs(c) for c in b])
+        for m, n in ((41, 41), (50, 45)):
+            self.check_product([0] * m, [0] * n)
+            self.check_product([16 ** 9] * m, [16 ** 7] * n)
+            self.check_product([16 ** 9 - 1] * m, [1 - 16 ** 7] * n)
+            self.check_product([0] * (m - 1) + [1], [0] * (n - 1) + [-1])
+            self.check_product([-1] * m, [1] * n)
+
+    def check_product(self, a, b):
+        expected = [0] * (len(a) + len(b) - 1)
+        for i, x in enumerate(a):
+            for k, y in enumerate(b):
+                expected[i + k] += x * y
+        self.assertEqual(convolved_at_once(a, b), expected)
+        self.assertEqual(convolved(a, b), expected)
 
     def test_content(self):
         self.assertEqual(without_content([[4, -6], [], [0, 10]]), [[2, -3], [], [0, 5]])

@@ -267,6 +267,11 @@ class OperatorTest(ClaimTest):
             unit = identity(f, 2)
             self.reject(("frobenius", f, parted, (poly(f, -1, 1), poly(f, -2, 1)), unit, unit))
             self.accept(("frobenius", f, unit, (poly(f, -1, 1), poly(f, -1, 1)), unit, unit))
+            for values, judged in (((1, 1, 1), self.accept), ((1, 1, 2), self.reject), ((1, 2, 2), self.reject),
+                                   ((2, 1, 1), self.reject), ((1, 2, 1), self.reject)):
+                factors = tuple(poly(f, -x, 1) for x in values)
+                rows = [[x if i == j else 0 for j in range(3)] for i, x in enumerate(values)]
+                judged(("frobenius", f, table(f, *rows), factors, identity(f, 3), identity(f, 3)))
             self.accept(("frobenius", f, table(f, (0, -2), (1, 3)), (poly(f, 2, -3, 1),), unit, unit))
             # No companion matrix of this polynomial, which is not monic.
             self.reject(("frobenius", f, table(f, (0, -2), (1, 3)), (poly(f, 2, -3, 2),), unit, unit))

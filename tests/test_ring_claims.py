@@ -81,7 +81,8 @@ class HermiteTest(ClaimTest):
                         {3: table(Z, (2, 1, 0), (0, 2, 0))}, {4: table(Z, (-1, 1))})
         self.check_forms(Z, [(2, 1), (0, 2)], [(2, 0), (0, 2)], [(0, 3), (0, 0)], [(0, 0), (0, 0)], [(5, 7), (0, 0)])
         self.check_no_forms(Z, [(2, 2), (0, 2)], [(2, -1), (0, 2)], [(-2, 1), (0, 2)], [(2, 1), (0, -2)],
-                            [(0, 0), (0, 2)], [(0, 2), (2, 0)], [(2, 0), (2, 0)], [(0, 2), (0, 2)], [(2, 3), (0, 1)])
+                            [(0, 0), (0, 2)], [(0, 2), (2, 0)], [(2, 0), (2, 0)], [(0, 2), (0, 2)], [(2, 3), (0, 1)],
+                            [(2, 0), (3, 0)], [(0, 1), (0, 4)])
         # u has no inverse over the integers.
         self.reject(("hermite", Z, table(Z, (1,)), table(Z, (2,)), table(Z, (2,)), table(Z, (1,))))
         self.reject(("hermite", Z, table(Z, (1,)), table(Z, (0,)), table(Z, (0,)), table(Z, (0,))))
@@ -114,7 +115,8 @@ class HermiteTest(ClaimTest):
                              [(x, poly(f, 1, 1)), (none, poly(f, 0, 0, 1))])
             self.check_no_forms(e, [(x, x), (none, x)], [(poly(f, 0, 2), c), (none, x)],
                                 [(x, c), (none, poly(f, 0, 2))],
-                                [(x, c), (none, unit)], [(none, none), (none, x)], [(x, c), (x, none)])
+                                [(x, c), (none, unit)], [(none, none), (none, x)], [(x, c), (x, none)],
+                                [(unit, none), (x, none)])
             # A polynomial that is no constant has no inverse.
             self.reject(("hermite", e, (1, 1, ((unit,),)), (1, 1, ((x,),)), (1, 1, ((x,),)), (1, 1, ((x,),))))
             # A constant has.
@@ -154,6 +156,11 @@ class SmithTest(ClaimTest):
                         [(3, 0, 0), (0, 6, 0)], [(3,), (0,)], [(0, 0, 0)])
         self.judge_form(self.reject, Z, [(2, 0), (0, 3)], [(6, 0), (0, 2)], [(0, 0), (0, 2)], [(-1, 0), (0, 2)],
                         [(1, 0), (0, -2)], [(1, 1), (0, 2)], [(1, 0), (1, 2)], [(1, 0, 1)], [(1,), (1,)], [(0, 1)])
+        for numbers, judged in (((1, 2, 4), self.accept), ((2, 2, 2), self.accept), ((3, 6, 0), self.accept),
+                                ((3, 0, 0), self.accept), ((1, 4, 2), self.reject), ((2, 1, 4), self.reject),
+                                ((2, 4, 6), self.reject), ((2, 3, 6), self.reject), ((2, 0, 4), self.reject),
+                                ((0, 2, 4), self.reject)):
+            self.judge_form(judged, Z, [tuple(x if i == j else 0 for j in range(3)) for i, x in enumerate(numbers)])
         for f in (Q, F7):
             e = ("P", f)
             x, c, none, unit = x_plus(f, 0), poly(f, 2), (), one(e)
@@ -198,6 +205,13 @@ class FactorsTest(ClaimTest):
                             {3: ((poly(f, 2), 1), (first, 1), (second, 2))}, {3: ((first, 10 ** 30), (second, 2))},
                             {3: ((multiply(e, poly(f, 2), first), 1), (second, 2))}, {3: (((), 1), (second, 2))},
                             {3: ((first, 1), (second, 2), ((), 1))})
+            # Factors that are not monic, though their product is.
+            half = poly(f, (f[1] + 1) // 2)
+            g = multiply(e, first, second)
+            pair = multiply(e, poly(f, 2), first), multiply(e, half, second)
+            self.accept(("factors", f, g, ((first, 1), (second, 1))))
+            self.reject(("factors", f, g, ((pair[0], 1), (pair[1], 1))))
+            self.reject(("factors", f, g, ((pair[1], 1), (pair[0], 1))))
         self.reject(("factors", Q, poly(Q, 1, 1), ((poly(Q, 1, 1), 1),)))
         self.reject(("factors", Q, poly(Q, 1), ()))
 
@@ -328,7 +342,7 @@ class LatticeTest(ClaimTest):
                         {5: (none, none)}, {5: (none, half)}, {5: (half,)}, {5: (half, none, none)}, {3: False},
                         {4: True})
         good = ("other lattice", b, a, 1, 1, (half, none))
-        self.check_form(good, {1: a}, {2: b}, {3: 0}, {3: 2}, {3: True}, {4: 0}, {4: 2}, {4: -1}, {4: True},
+        self.check_form(good, {1: a}, {2: b}, {3: 0}, {3: -1}, {3: 2}, {3: True}, {4: 0}, {4: 2}, {4: -1}, {4: True},
                         {5: (none, half)})
         self.accept(("other lattice", (0, 1, ()), table(Z, (1,)), 1, 0, (half,)))
         self.reject(("other lattice", (0, 1, ()), table(Z, (1,)), 0, 0, (half,)))

@@ -165,6 +165,11 @@ class CharacteristicTest(unittest.TestCase):
         self.assertEqual(characteristic_by_primes(integers((1, 2), (3, 4))), (-2, -5, 1))
         self.assertEqual(characteristic_by_primes(integers((-BIG,))), (BIG, 1))
         self.assertEqual(characteristic_by_primes(zero_matrix(Z, 3, 3)), (0, 0, 0, 1))
+        # More than half of a product of primes.
+        for n in (FIRST - 10, FIRST // 2 + 1, FIRST * PRIMES[1] - 10):
+            for x in (n, -n):
+                self.assertEqual(characteristic_by_primes(integers((x,))), (-x, 1))
+                self.assertEqual(determinant_by_primes(integers((x,)))[0], x)
 
 
 class RankTest(unittest.TestCase):

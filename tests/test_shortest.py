@@ -261,6 +261,24 @@ class ClosestTest(unittest.TestCase):
                 self.assertGreaterEqual(sum((value(p) - q) ** 2 for p, q in zip(v, near)), far)
 
 
+    def test_coefficients_that_are_not_the_nearest_ones(self):
+        # Reduced bases whose rows are ever shorter beside those before them: the last coefficient
+        # of the nearest vector is one or two away from what seems best at first.
+        for b, v, w, s in (
+                (integers((1000, 0, 0, 0, 0), (-500, 716, 0, 0, 0), (500, 358, 514, 0, 0), (153, 358, 257, 368, 0),
+                          (209, 358, 160, -184, 264)),
+                 (4112, 1607, 4285, 205, -3302), (4074, 1790, 4248, 0, -3168), 96283),
+                (integers((1000, 0, 0, 0, 0, 0), (500, 716, 0, 0, 0, 0), (-500, 358, 514, 0, 0, 0),
+                          (-500, 358, 257, 368, 0, 0), (-500, -126, -257, -184, 264, 0), (500, 273, 257, 184, 132, 190)),
+                 (1638, 1905, -4878, -4288, -2569, -2172), (1500, 1841, -4883, -4416, -2508, -2470), 132074),
+                (integers((1000, 0, 0, 0, 0, 0), (-500, 716, 0, 0, 0, 0), (-500, -358, 514, 0, 0, 0),
+                          (-500, -358, 257, 368, 0, 0), (-63, 218, -257, 184, 264, 0), (152, -358, -235, 174, 132, 190)),
+                 (4119, 1902, -2288, 1735, 79, -3708), (4197, 1962, -2452, 1836, 0, -3420), 135966)):
+            self.assertEqual(closest(b, tuple((x, 1) for x in v)), (w, (s, 1)))
+            opposite = tuple((-x, 1) for x in v)
+            self.assertEqual(closest(b, opposite), (tuple(-x for x in w), (s, 1)))
+
+
 class ErrorTest(unittest.TestCase):
     """Points 6 and 120."""
 

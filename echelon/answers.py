@@ -1,13 +1,9 @@
 """Answers to questions: claims that the judge accepts (points 148 and 149)."""
 
 from echelon.domains import divide, greatest, is_field, need_field, one, zero
-from echelon.elimination import (
-    determinant, inverted, kernel, reduce, refute, solve, split,
-)
+from echelon.elimination import determinant, inverted, kernel, reduce, refute, solve, split
 from echelon.errors import DomainError
-from echelon.euclid import (
-    determinant_of, hermite, integer_refute, integer_solve, smith,
-)
+from echelon.euclid import determinant_of, hermite, integer_refute, integer_solve, smith
 from echelon.factoring import factor
 from echelon.frobenius import cyclic_form, need_equal_sizes, similarity_of
 from echelon.jordan import jordan
